@@ -1,0 +1,58 @@
+"""The greatest mean that free worlds get, and purses."""
+
+from peekproof.errors import NoState
+from peekproof.moves import Moves, gain_ranks, refuse_no_study, refuse_too_many_states, told_worths
+from peekproof.papers import Paper, told_of
+from peekproof.ratios import as_ratio, mean_of
+from peekproof.solving import best_world, leading_picks
+
+
+class Greatest(Paper):
+    """The greatest number, with the table, the kept corners and the ranks that show it."""
+
+    def __init__(self, number, table, corners, ranks):
+        super().__init__("greatest", number, table, corners, ranks)
+        self.number = self.parts[0]
+        self.table = self.parts[1]
+        self.corners = self.parts[2]
+        self.ranks = self.parts[3]
+
+    def at(self, state):
+        """What the table tells of the state."""
+        told = told_of(self.table, state)
+        if not told:
+            raise NoState(state)
+        return told[0]
+
+
+def greatest(study, worths=None):
+    """A right Greatest."""
+    refuse_no_study(study)
+    told = told_worths(study, worths)
+    refuse_too_many_states(study)
+    moves = Moves(study, told)
+    picks, numbers, bottom = best_world(moves.lines, leading_picks(moves.lines), 1)
+    table = moves.table_of(numbers, bottom)
+    found = gain_ranks([line[pick] for line, pick in zip(moves.lines, picks)])
+    corners = {state: pick for state, pick in zip(study.states, picks)}
+    ranks = {state: found[at] for at, state in enumerate(study.states) if at in found}
+    return Greatest(table[study.watch.first], table, corners, ranks)
+
+
+def is_purse(study, table, worths=None):
+    """Whether table is a dict from just the states to ratios from 0 on that is a purse."""
+    refuse_no_study(study)
+    told = told_worths(study, worths)
+    if not isinstance(table, dict) or len(table) != len(study):
+        return False
+    numbers = {state: as_ratio(table.get(state)) for state in study.states}
+    if any([number is None or number.sign < 0 for number in numbers.values()]):
+        return False
+    numbers.update(told)
+    return all([_is_never_below(study, state, numbers) for state in study.states])
+
+
+def _is_never_below(study, state, numbers):
+    """Whether the number of the state is at no corner below the mean of the numbers of the places."""
+    behind = [numbers.get(place, 0) for place in study.watch.places_of(state)]
+    return not any([numbers[state].is_below(mean_of(corner, behind)) for corner in study.corners_of(state)])

@@ -1,0 +1,75 @@
+"""Watches out of several watches."""
+
+from peekproof.errors import BadWatch, UnlikeSigns
+from peekproof.standings import DARK, LIT, SameSigns, arms_of, explored
+from peekproof.watches import Joined, Watch
+
+_MOST_WATCHES = 6
+
+
+class AnyLit(SameSigns):
+    """Lit as soon as one of the watches is."""
+
+    def end_of(self, places):
+        """The end that a standing is, None if it is a state."""
+        if LIT in places:
+            return LIT
+        return None if self.asking(places) else DARK
+
+
+class AllLit(SameSigns):
+    """Lit as soon as all of the watches are."""
+
+    def end_of(self, places):
+        """The end that a standing is, None if it is a state."""
+        ended = [place for place, watch in zip(places, self.watches) if place not in watch]
+        if any([place != LIT for place in ended]):
+            return DARK
+        return LIT if len(ended) == len(places) else None
+
+
+class OneByOne(AllLit):
+    """Lit as soon as the last one is, where each one begins when the one ahead of it is lit."""
+
+    def asking(self, standing):
+        """The index of the one that runs: the first one that has not ended."""
+        return super().asking(standing)[:1]
+
+
+def joined(one, other):
+    """The two watches joined."""
+    return Joined(one, other)
+
+
+def any_of(*watches):
+    """The watch that is lit as soon as one of these is lit."""
+    _refuse_bad_watches(watches)
+    return _made_of(AnyLit(watches))
+
+
+def all_of(*watches):
+    """The watch that is lit as soon as all of these are lit."""
+    _refuse_bad_watches(watches)
+    return _made_of(AllLit(watches))
+
+
+def in_order(*watches):
+    """The watch that runs these one behind the other, each one when the one ahead of it is lit."""
+    _refuse_bad_watches(watches)
+    return _made_of(OneByOne(watches))
+
+
+def _made_of(machine):
+    lines, met = explored(machine)
+    return Watch(arms_of(machine, lines, met), (LIT, DARK), lines)
+
+
+def _refuse_bad_watches(watches):
+    if not 1 <= len(watches) <= _MOST_WATCHES or not all([isinstance(watch, Watch) for watch in watches]):
+        raise BadWatch("watches")
+    known = {}
+    for watch in watches:
+        for arm, signs in watch.arms:
+            if known.get(arm, signs) != signs:
+                raise UnlikeSigns(arm)
+            known[arm] = signs
