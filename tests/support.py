@@ -18,6 +18,9 @@ ANY_VALUES = (None, True, False, 0, 1, -1, 1.5, "", "x", "a b", (), [], {}, [1],
               [[]], [[[]]], Strange(), Strange, len, Ratio(1, 2), float("nan"))
 
 
+NO_TEXTS = [value for value in ANY_VALUES if not isinstance(value, str)]
+
+
 class Case(unittest.TestCase):
     def refused(self, error, fields, call, *arguments, **named):
         """The call raises just this error with just these fields."""
@@ -80,7 +83,7 @@ def bent(rng, text, words):
         other = rng.randrange(len(parts))
         parts[at], parts[other] = parts[other], parts[at]
     else:
-        letters = list(" ".join(parts))
+        letters = list(" ".join(parts)) or [" "]
         spot = rng.randrange(len(letters))
         if way == 6:
             letters[spot:spot + 1] = rng.choice(["", " ", "0", "1", "a", ".", "/", "|", ":", letters[spot] * 2])
