@@ -1,9 +1,8 @@
 """The greatest mean that free worlds get, and purses."""
 
-from peekproof.errors import NoState
-from peekproof.moves import Moves, gain_ranks, refuse_no_study, refuse_too_many_states, told_worths
-from peekproof.papers import Paper, told_of
-from peekproof.ratios import as_ratio, mean_of
+from peekproof.moves import Moves, gain_ranks, mean_behind, refuse_no_study, refuse_too_many_states, told_worths
+from peekproof.papers import Paper, told_at
+from peekproof.ratios import as_ratio, common_bottom, scaled_tops
 from peekproof.solving import best_world, leading_picks
 
 
@@ -19,10 +18,7 @@ class Greatest(Paper):
 
     def at(self, state):
         """What the table tells of the state."""
-        told = told_of(self.table, state)
-        if not told:
-            raise NoState(state)
-        return told[0]
+        return told_at(self.table, state)
 
 
 def greatest(study, worths=None):
@@ -45,14 +41,11 @@ def is_purse(study, table, worths=None):
     told = told_worths(study, worths)
     if not isinstance(table, dict) or len(table) != len(study):
         return False
-    numbers = {state: as_ratio(table.get(state)) for state in study.states}
-    if any([number is None or number.sign < 0 for number in numbers.values()]):
+    numbers = [as_ratio(table.get(state)) for state in study.states]
+    if any([number is None or number.sign < 0 for number in numbers]):
         return False
-    numbers.update(told)
-    return all([_is_never_below(study, state, numbers) for state in study.states])
-
-
-def _is_never_below(study, state, numbers):
-    """Whether the number of the state is at no corner below the mean of the numbers of the places."""
-    behind = [numbers.get(place, 0) for place in study.watch.places_of(state)]
-    return not any([numbers[state].is_below(mean_of(corner, behind)) for corner in study.corners_of(state)])
+    moves = Moves(study, told)
+    bottom = common_bottom(numbers)
+    tops = [top * moves.bottom for top in scaled_tops(numbers, bottom)]
+    return all([mean_behind(move, tops, bottom) <= top * move[0]
+                for line, top in zip(moves.lines, tops) for move in line])

@@ -1,8 +1,7 @@
 """The least mean that worlds get that go on."""
 
-from peekproof.errors import NoState
 from peekproof.moves import Moves, refuse_no_study, refuse_too_many_states, told_worths
-from peekproof.papers import Paper, told_of
+from peekproof.papers import Paper, told_at
 from peekproof.solving import best_world
 from peekproof.sure import sure
 
@@ -19,10 +18,7 @@ class Least(Paper):
 
     def at(self, state):
         """What the table tells of the state."""
-        told = told_of(self.table, state)
-        if not told:
-            raise NoState(state)
-        return told[0]
+        return told_at(self.table, state)
 
 
 def least(study, worths=None):

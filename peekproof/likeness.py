@@ -31,16 +31,17 @@ def alike(one, other):
     if not _are_like_places(one, other, start):
         return Unlike(())
     met = [start]
-    rows = {start: ()}
+    # Only how each pair was come to is kept: a row for each one would grow with the square of their number.
+    steps = {start: None}
     at = 0
     while at < len(met):
         state, there = met[at]
         for sign in one.signs_of(state):
             pair = (one.place(state, sign), other.place(there, sign))
             if not _are_like_places(one, other, pair):
-                return Unlike((*rows[met[at]], sign))
-            if pair[0] in one and pair not in rows:
-                rows[pair] = (*rows[met[at]], sign)
+                return Unlike([*_row_to(met[at], steps), sign])
+            if pair[0] in one and pair not in steps:
+                steps[pair] = (met[at], sign)
                 met.append(pair)
         at += 1
     return Alike(met)
@@ -87,6 +88,15 @@ def _refuse_unlike_watches(one, other):
     _refuse_no_watch(one, "one")
     _refuse_no_watch(other, "other")
     refuse_unlike_signs(one, other)
+
+
+def _row_to(pair, steps):
+    """The signs by which the pair was come to."""
+    signs = []
+    while steps[pair] is not None:
+        pair, sign = steps[pair]
+        signs.append(sign)
+    return signs[::-1]
 
 
 def _are_like_places(one, other, pair):

@@ -8,6 +8,7 @@ from peekproof.checks import is_within
 from peekproof.errors import BadStudy, BadWorld, BadWorths, TooMany
 from peekproof.linear import solved
 from peekproof.ratios import Ratio, as_ratio, common_bottom, scaled_tops
+from peekproof.standings import LIT
 from peekproof.studies import Study
 
 
@@ -30,7 +31,7 @@ def told_worths(study, worths):
     """The dict of the Ratios of the worths."""
     ends = study.watch.ends
     if worths is None:
-        return {end: Ratio(int(end == study.watch.LIT)) for end in ends}
+        return {end: Ratio(int(end == LIT)) for end in ends}
     if not isinstance(worths, dict) or len(worths) != len(ends):
         raise BadWorths("worths")
     told = {end: as_ratio(worths.get(end)) for end in ends}

@@ -1,6 +1,7 @@
 """Papers: what tells an answer and shows it."""
 
 from peekproof.checks import is_integer
+from peekproof.errors import NoState
 
 
 def fixed(value):
@@ -46,11 +47,14 @@ def is_table(value):
     return all([keys[at] < keys[at + 1] for at in range(len(keys) - 1)])
 
 
-def told_of(table, key):
-    """What a part that was told as a dict tells of the key, in a tuple; an empty one if it tells nothing."""
-    if not isinstance(table, tuple) or not (isinstance(key, str) or is_integer(key)):
-        return ()
-    for pair in table:
-        if isinstance(pair, tuple) and len(pair) == 2 and not isinstance(pair[0], bool) and pair[0] == key:
-            return (pair[1],)
-    return ()
+def told_at(table, state):
+    """What a part that was told as a dict tells of the state; NoState for any value of which it tells nothing."""
+    pairs = table if isinstance(table, tuple) and _is_key(state) else ()
+    for pair in pairs:
+        if isinstance(pair, tuple) and len(pair) == 2 and _is_key(pair[0]) and pair[0] == state:
+            return pair[1]
+    raise NoState(state)
+
+
+def _is_key(value):
+    return isinstance(value, str) or is_integer(value)

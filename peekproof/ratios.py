@@ -117,26 +117,12 @@ def added(ratios):
 
 def least_of(ratios):
     """The least one of the ratios."""
-    listed = _listed_ratios(ratios)
-    if not listed:
-        raise BadRatio("ratios")
-    least = listed[0]
-    for ratio in listed:
-        if ratio.is_below(least):
-            least = ratio
-    return least
+    return _furthest_of(ratios, -1)
 
 
 def greatest_of(ratios):
     """The greatest one of the ratios."""
-    listed = _listed_ratios(ratios)
-    if not listed:
-        raise BadRatio("ratios")
-    greatest = listed[0]
-    for ratio in listed:
-        if greatest.is_below(ratio):
-            greatest = ratio
-    return greatest
+    return _furthest_of(ratios, 1)
 
 
 def as_ratio(value):
@@ -212,6 +198,17 @@ def _other_ratio(other):
     if told is None:
         raise BadRatio("other")
     return told
+
+
+def _furthest_of(ratios, order):
+    listed = _listed_ratios(ratios)
+    if not listed:
+        raise BadRatio("ratios")
+    furthest = listed[0]
+    for ratio in listed:
+        if ratio.compared(furthest) * order > 0:
+            furthest = ratio
+    return furthest
 
 
 def _listed_ratios(ratios):

@@ -113,6 +113,21 @@ class AlikeTest(Case):
             self.refused(UnlikeSigns, {"label": "trial"}, call, watch, turned)
 
 
+class LargeTest(Case):
+    def test_rings_of_many_states(self):
+        rings = [Watch({"bell": ["ring"]}, ["lit"], [(f"q{at}", "bell", [f"q{(at + 1) % many}"]) for at in range(many)])
+                 for many in (199, 200)]
+        shown = alike(*rings)
+        self.assertEqual(len(shown.pairs), 199 * 200)
+        self.assertTrue(shows_alike(*rings, shown))
+        self.assertFalse(shows_alike(*rings, Alike(shown.pairs[:-1])))
+        lines = [(f"q{at}", "bell", [f"q{at + 1}" if at < 199 else "lit"]) for at in range(200)]
+        line = Watch({"bell": ["ring"]}, ["lit"], lines)
+        self.assertEqual(alike(rings[0], line), Unlike(["ring"] * 200))
+        self.assertEqual([len(folded(watch)) for watch in (*rings, line)], [1, 1, 200])
+        self.assertEqual([len(settled(watch)) for watch in (*rings, line)], [1, 1, 200])
+
+
 class FoldedTest(Case):
     def test_plain_cases(self):
         watch = Watch({"coin": ARMS["coin"]}, ["lit", "dark"],
