@@ -76,10 +76,9 @@ class RowFinder(OneArm):
     def moved(self, kept, sign):
         """What is kept behind the sign, or the end."""
         shown = [*self.row[:kept], sign]
-        for start in range(len(shown)):
-            if shown[start:] == self.row[:len(shown) - start]:
-                return LIT if len(shown) - start == len(self.row) else len(shown) - start
-        return 0
+        while shown != self.row[:len(shown)]:
+            shown = shown[1:]
+        return LIT if len(shown) == len(self.row) else len(shown)
 
 
 class LevelRace(OneArm):

@@ -2,7 +2,7 @@
 
 from peekproof.checks import is_one_of, is_within
 from peekproof.crowds import Crowd
-from peekproof.errors import BadCrowd, BadNumbers, BadStudy, BadText, NoArm, NoSign, NoState, TooMany
+from peekproof.errors import BadCrowd, BadNumbers, BadStudy, BadText, NoArm, NoState, TooMany
 from peekproof.ranking import sure_ranks
 from peekproof.standings import met_from
 from peekproof.watches import Watch
@@ -53,8 +53,6 @@ class Study:
     def place(self, state, sign):
         """The place behind a sign, possible or not."""
         self._refuse_no_state(state)
-        if not is_one_of(sign, self.watch.signs_of(state)):
-            raise NoSign(sign)
         return self.watch.place(state, sign)
 
     def with_crowd(self, arm, crowd):

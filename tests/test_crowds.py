@@ -147,6 +147,8 @@ class CrowdTest(Case):
     def test_made_crowds(self):
         self.assertEqual(str(Crowd.all_sure(["a", "b"])), "a 1 b 0 / a 0 b 1")
         self.assertEqual(str(Crowd.just(["a", "b"], [HALF, HALF])), "a 1/2 b 1/2")
+        self.assertEqual([str(Crowd.all_sure(["a"])), str(Crowd.just(("a",), (1,)))], ["a 1", "a 1"])
+        self.assertEqual([len(Crowd.all_sure(NAMES[:12])), len(Crowd.just(NAMES[:12], [1] + [0] * 11))], [12, 1])
         self.assertEqual(str(Crowd.between(["a", "b"], 0, 1)), "a 0 b 1 / a 1 b 0")
         self.assertEqual(str(Crowd.between(["a", "b"], HALF, HALF)), "a 1/2 b 1/2")
         for value in [*ANY_VALUES, ["a", "a"], NAMES]:

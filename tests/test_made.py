@@ -66,6 +66,18 @@ class ReadyTest(Case):
             for part in (["up"], ["up", "up", "down"], ["down", "up", "down", "up"], ["up", "down", "up", "up"]):
                 self.follows(spotted(part, signs=signs), lambda row: "lit" if ends_with(row, part) else None, length)
 
+    def test_drawn_rows_and_looks(self):
+        rng = rng_of(33)
+        for _ in range(40):
+            part = [rng.choice(["up", "down"]) for _ in range(rng.randint(1, 6))]
+            self.follows(spotted(part, signs=("up", "down")), lambda row: "lit" if ends_with(row, part) else None, 9)
+        for looks in ([1, 2, 4], [1, 3, 4, 5], (2, 3, 5)):
+            self.follows(ahead_by(2, 5, looks, signs=("up", "down")),
+                         lambda row: "lit" if len(row) in looks and level(row) >= 2
+                         else "dark" if len(row) == 5 else None)
+        for looks in ([1, 3, 3], [1, 3, 2], [2, 1, 3], [1, 2, 3, 6]):
+            self.refused(BadNumbers, {"part": "looks"}, ahead_by, 2, 5, looks)
+
     def test_sizes_and_numbering(self):
         for watch, many in ((in_a_row(60), 60), (in_all(60), 60), (of_last(6, 6), 63), (of_last(6, 1), 6),
                             (spotted(["hit"] * 20), 20), (sooner(30, 30), 59),
