@@ -1,11 +1,10 @@
 """Which watches are alike, and the smallest ones that are."""
 
 from peekproof.checks import is_one_of
-from peekproof.errors import BadWatch
 from peekproof.made import ends_with
 from peekproof.papers import Denial, Paper
 from peekproof.standings import LIT, met_from, refuse_unlike_signs
-from peekproof.watches import Watch
+from peekproof.watches import Watch, refuse_no_watch
 
 
 class Alike(Paper):
@@ -57,7 +56,7 @@ def shows_alike(one, other, value):
 
 def folded(watch):
     """The watch that is alike and has the fewest states."""
-    _refuse_no_watch(watch, "watch")
+    refuse_no_watch(watch, "watch")
     states = watch.reached()
     kinds = _kinds_of(watch, states)
     firsts = {}
@@ -70,7 +69,7 @@ def folded(watch):
 
 def settled(watch, dark="dark"):
     """The watch with an end in the place of each state from which no row leads to lit."""
-    _refuse_no_watch(watch, "watch")
+    refuse_no_watch(watch, "watch")
     ends = ends_with(watch, dark)
     hopeful = _states_to_lit(watch)
     bears = {state: state if state in hopeful else dark for state in watch}
@@ -79,14 +78,9 @@ def settled(watch, dark="dark"):
     return _watch_of(watch, ends, [state for state in watch if state in met], bears)
 
 
-def _refuse_no_watch(watch, part):
-    if not isinstance(watch, Watch):
-        raise BadWatch(part)
-
-
 def _refuse_unlike_watches(one, other):
-    _refuse_no_watch(one, "one")
-    _refuse_no_watch(other, "other")
+    refuse_no_watch(one, "one")
+    refuse_no_watch(other, "other")
     refuse_unlike_signs(one, other)
 
 

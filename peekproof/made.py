@@ -3,7 +3,7 @@
 from peekproof.checks import are_labels, is_label, is_listed, is_one_of, is_within
 from peekproof.errors import BadNumbers, BadWatch, TooMany, Twice
 from peekproof.standings import DARK, LIT, arms_of, explored
-from peekproof.watches import Watch
+from peekproof.watches import Watch, refuse_no_watch
 
 _MOST_ENDS = 9
 
@@ -191,8 +191,7 @@ def ahead_by(by, last, looks=None, *, signs=("hit", "miss"), arm="trial"):
 
 def cut(watch, last, dark="dark"):
     """The watch, which goes to the end dark if it has not ended behind last signs."""
-    if not isinstance(watch, Watch):
-        raise BadWatch("watch")
+    refuse_no_watch(watch, "watch")
     _refuse_unless_within(last, 60, "last")
     ends = ends_with(watch, dark)
     machine = CutWatch(watch, last, dark)

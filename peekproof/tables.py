@@ -22,24 +22,24 @@ class Table:
         self.sources = tuple(sources)
         self.targets = tuple(targets)
         self.lines = lines
+        self._chances = {source: _by_label(targets, line) for source, line in zip(sources, lines)}
 
     def __iter__(self):
         return iter(self.sources)
 
     def __getitem__(self, at):
         source, target = at
-        if not is_one_of(source, self.sources):
+        if not is_one_of(source, self._chances):
             raise BadTable("source")
-        if not is_one_of(target, self.targets):
+        if not is_one_of(target, self._chances[source]):
             raise BadTable("target")
-        return self.lines[self.sources.index(source)][self.targets.index(target)]
+        return self._chances[source][target]
 
     def chances_of(self, source):
         """The pairs (target, chance) of the targets that the source can be shown as."""
-        if not is_one_of(source, self.sources):
+        if not is_one_of(source, self._chances):
             raise BadTable("source")
-        line = self.lines[self.sources.index(source)]
-        return tuple([(target, chance) for target, chance in zip(self.targets, line) if chance.sign > 0])
+        return tuple([(target, chance) for target, chance in self._chances[source].items() if chance.sign > 0])
 
     def __mul__(self, other):
         if not isinstance(other, Table):
@@ -79,6 +79,10 @@ def behind_table(chances, table):
 def text_of_part(labels, chances):
     """Each label with its chance, in order."""
     return " ".join([f"{label} {chance}" for label, chance in zip(labels, chances)])
+
+
+def _by_label(labels, chances):
+    return {label: chance for label, chance in zip(labels, chances)}
 
 
 def _lines_of(rows, height, width):

@@ -93,14 +93,11 @@ class Watch:
             raise NoEnd(end)
         running = [((), self.first)]
         for _ in range(most):
-            longer = []
-            for row, state in running:
-                for sign, place in self._ways[state].items():
-                    if place == end:
-                        yield (*row, sign)
-                    elif place in self._ways:
-                        longer.append(((*row, sign), place))
-            running = longer
+            shown = [((*row, sign), place) for row, state in running for sign, place in self._ways[state].items()]
+            for row, place in shown:
+                if place == end:
+                    yield row
+            running = [(row, place) for row, place in shown if place in self._ways]
 
     def __len__(self):
         return len(self.states)
@@ -149,10 +146,8 @@ class Joined(Watch):
     """Two watches joined."""
 
     def __init__(self, one, other):
-        if not isinstance(one, Watch):
-            raise BadWatch("one")
-        if not isinstance(other, Watch):
-            raise BadWatch("other")
+        refuse_no_watch(one, "one")
+        refuse_no_watch(other, "other")
         refuse_unlike_signs(one, other)
         machine = BothEnded((one, other))
         lines, met = explored(machine)
@@ -166,6 +161,12 @@ class Joined(Watch):
         if not is_one_of(state, self._pairs):
             raise NoState(state)
         return self._pairs[state]
+
+
+def refuse_no_watch(watch, part):
+    """Refuses any value that is no Watch."""
+    if not isinstance(watch, Watch):
+        raise BadWatch(part)
 
 
 def _refuse_bad_arms(arms):
