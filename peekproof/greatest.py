@@ -1,8 +1,8 @@
 """The greatest mean that free worlds get, and purses."""
 
-from peekproof.moves import Moves, gain_ranks, mean_behind, refuse_no_study, refuse_too_many_states, told_worths
+from peekproof.moves import gain_ranks, none_above, refuse_no_study, refuse_too_many_states, told_worths, worth_moves
 from peekproof.papers import Paper, told_at
-from peekproof.ratios import as_ratio, common_bottom, scaled_tops
+from peekproof.ratios import as_ratio
 from peekproof.solving import best_world, leading_picks
 
 
@@ -26,7 +26,7 @@ def greatest(study, worths=None):
     refuse_no_study(study)
     told = told_worths(study, worths)
     refuse_too_many_states(study)
-    moves = Moves(study, told)
+    moves = worth_moves(study, told)
     picks, numbers, bottom = best_world(moves.lines, leading_picks(moves.lines), 1)
     table = moves.table_of(numbers, bottom)
     found = gain_ranks([line[pick] for line, pick in zip(moves.lines, picks)])
@@ -41,11 +41,7 @@ def is_purse(study, table, worths=None):
     told = told_worths(study, worths)
     if not isinstance(table, dict) or len(table) != len(study):
         return False
-    numbers = [as_ratio(table.get(state)) for state in study.states]
-    if any([number is None or number.sign < 0 for number in numbers]):
+    numbers = {state: as_ratio(table.get(state)) for state in study.states}
+    if any([number is None or number.sign < 0 for number in numbers.values()]):
         return False
-    moves = Moves(study, told)
-    bottom = common_bottom(numbers)
-    tops = [top * moves.bottom for top in scaled_tops(numbers, bottom)]
-    return all([mean_behind(move, tops, bottom) <= top * move[0]
-                for line, top in zip(moves.lines, tops) for move in line])
+    return none_above(worth_moves(study, told).surpluses(numbers))

@@ -1,6 +1,6 @@
 """The least mean that worlds get that go on."""
 
-from peekproof.moves import Moves, refuse_no_study, refuse_too_many_states, told_worths
+from peekproof.moves import refuse_no_study, refuse_too_many_states, told_worths, worth_moves
 from peekproof.papers import Paper, told_at
 from peekproof.solving import best_world
 from peekproof.sure import sure
@@ -29,7 +29,7 @@ def least(study, worths=None):
     shown = sure(study)
     if not shown:
         return shown
-    moves = Moves(study, told)
+    moves = worth_moves(study, told)
     picks, numbers, bottom = best_world(moves.lines, [0] * len(study), -1)
     table = moves.table_of(numbers, bottom)
     corners = {state: pick for state, pick in zip(study.states, picks)}

@@ -1,7 +1,7 @@
-"""Studies with worths as integers: moves, and the steady worlds that take one of them at each state.
+"""Studies with what is gained as integers: moves, and the steady worlds that take one of them at each state.
 
 A move is what one corner does at a state: a triple (scale, gain, steps). Its mean is the gain, plus each step's share
-times the number of the state with this index, over the scale. All worths stand over one common bottom.
+times the number of the state with this index, over the scale. All gains stand over one common bottom.
 """
 
 from peekproof.checks import is_within
@@ -47,22 +47,50 @@ def refuse_too_many_states(study):
 
 
 class Moves:
-    """The moves of a study with these worths: each line has those of a state, by the corners in order."""
+    """The moves of a study: each line has those of a state, by the corners in order.
 
-    def __init__(self, study, worths):
-        ends = list(worths)
+    The gains tell for each state what each of its signs gains at once, as integers over the bottom.
+    """
+
+    def __init__(self, study, bottom, gains):
         self.states = study.states
-        self.bottom = common_bottom([worths[end] for end in ends])
-        tops = scaled_tops([worths[end] for end in ends], self.bottom)
-        gains = {end: top for end, top in zip(ends, tops)}
+        self.bottom = bottom
         indexes = {state: at for at, state in enumerate(study.states)}
         shares = {arm: _scaled_corners(crowd) for arm, crowd in study.crowds}
-        self.lines = [[_move(corner, study.watch.places_of(state), gains, indexes)
+        self.lines = [[_move(corner, gains[state], study.watch.places_of(state), indexes)
                        for corner in shares[study.arm_of(state)]] for state in study.states]
 
     def table_of(self, numbers, bottom):
         """The dict from the states to the ratios that these numbers are."""
         return {state: Ratio(number, bottom * self.bottom) for state, number in zip(self.states, numbers)}
+
+    def surpluses(self, table):
+        """How far the means are above the numbers of the table, a dict from just the states to Ratios."""
+        return surpluses_of(self.lines, [table[state] for state in self.states], self.bottom)
+
+
+def surpluses_of(lines, numbers, unit):
+    """For each state, by its moves, an integer: above 0 if the mean is above the state's number, 0 if it is equal.
+
+    The numbers are Ratios; the gains of the moves stand over the unit.
+    """
+    bottom = common_bottom(numbers)
+    tops = [top * unit for top in scaled_tops(numbers, bottom)]
+    return [[mean_behind(move, tops, bottom) - top * move[0] for move in line] for line, top in zip(lines, tops)]
+
+
+def none_above(surpluses):
+    """Whether no mean is above the number of its state."""
+    return all([surplus <= 0 for line in surpluses for surplus in line])
+
+
+def worth_moves(study, worths):
+    """The moves with these worths, a dict from the ends of the watch to Ratios from 0 on."""
+    ends = list(worths)
+    bottom = common_bottom([worths[end] for end in ends])
+    tops = {end: top for end, top in zip(ends, scaled_tops([worths[end] for end in ends], bottom))}
+    gains = {state: [tops.get(place, 0) for place in study.watch.places_of(state)] for state in study.states}
+    return Moves(study, bottom, gains)
 
 
 def _scaled_corners(crowd):
@@ -70,15 +98,13 @@ def _scaled_corners(crowd):
     return [(scale, scaled_tops(corner, scale)) for scale, corner in zip(scales, crowd.corners)]
 
 
-def _move(corner, places, gains, indexes):
+def _move(corner, gains, places, indexes):
     scale, shares = corner
-    gain = 0
     steps = {}
     for share, place in zip(shares, places):
-        if share > 0 and place in gains:
-            gain = gain + share * gains[place]
-        elif share > 0:
+        if share > 0 and place in indexes:
             steps[indexes[place]] = steps.get(indexes[place], 0) + share
+    gain = sum([share * gained for share, gained in zip(shares, gains)])
     return scale, gain, list(steps.items())
 
 
@@ -93,9 +119,13 @@ def gains_of(chosen):
 
 def gain_ranks(chosen):
     """Ranks of the states from which these moves can lead to a gain: at rank 1 at once, else to a lesser rank."""
+    return ranks_to([at for at, move in enumerate(chosen) if move[1] > 0], chosen)
+
+
+def ranks_to(found, chosen):
+    """Ranks of the states found, which is 1, and of those from which these moves can lead to a lesser rank."""
     ranks = {}
     rank = 0
-    found = [at for at, move in enumerate(chosen) if move[1] > 0]
     while found:
         rank += 1
         for at in found:

@@ -172,6 +172,12 @@ def scaled_tops(ratios, bottom):
     return [ratio.top * (bottom // ratio.bottom) for ratio in ratios]
 
 
+def ascending(rows):
+    """The indexes of these rows of Ratios, that of the least one first: by their first ratios, then by the second."""
+    bottom = common_bottom([ratio for row in rows for ratio in row])
+    return [at for _, at in sorted([(tuple(scaled_tops(row, bottom)), at) for at, row in enumerate(rows)])]
+
+
 def ratio_of_word(word):
     """The ratio that is written so, None if none is."""
     is_negative = word.startswith("-")

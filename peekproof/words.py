@@ -37,6 +37,14 @@ class Words:
         self.here += 1
         return word
 
+    def take_later(self, labels):
+        """One of these labels must stand here; those behind it are told with it."""
+        word = self.word_ahead()
+        if word not in labels:
+            self.refuse()
+        self.here += 1
+        return word, labels[[at for at, label in enumerate(labels) if label == word][0] + 1:]
+
     def take_labels(self, most, mark):
         """From one to so many different labels, and the mark behind them."""
         labels = []
@@ -49,15 +57,29 @@ class Words:
 
     def take_share(self, total, is_last):
         """A chance must stand here that leads the total to at most 1, and to 1 if it is the last one."""
-        word = self.word_ahead()
-        share = None if word is None else ratio_of_word(word)
-        if share is None or share.sign < 0:
+        share = self._ratio_ahead()
+        if share.sign < 0:
             self.refuse()
         order = (total + share).compared(1)
         if order > 0 or (is_last and order < 0):
             self.refuse()
         self.here += 1
         return share
+
+    def take_cost(self):
+        """A ratio above 0 must stand here."""
+        cost = self._ratio_ahead()
+        if cost.sign <= 0:
+            self.refuse()
+        self.here += 1
+        return cost
+
+    def _ratio_ahead(self):
+        word = self.word_ahead()
+        ratio = None if word is None else ratio_of_word(word)
+        if ratio is None:
+            self.refuse()
+        return ratio
 
 
 def read_parts(text, mark, most_parts, most_labels, has_sources):

@@ -16,6 +16,10 @@ METHODS = set("""append clear copy count endswith extend find get index insert i
     setdefault split splitlines startswith strip update upper values zfill bit_length add discard __init__""".split())
 DUNDERS = set("""__init__ __eq__ __repr__ __str__ __len__ __enter__ __exit__ __call__ __iter__ __add__ __sub__ __mul__
     __and__ __or__ __neg__ __abs__ __bool__ __invert__ __contains__ __getitem__ __setitem__""".split())
+FREE = ("__init__", "__iter__", "__call__", "__enter__", "__exit__")
+# Attributes that the document gives to classes that are still to come, or to objects that are made elsewhere.
+TO_COME = ("index", "count", "rest", "way", "ring", "left", "study", "seen", "now", "kept", "rungs", "slots", "bars", "form",
+           "here", "beyond", "steps", "names", "fear", "peak", "story", "hall", "pairs")
 LIBRARY = {"math": {"gcd", "lcm", "isqrt", "comb", "perm", "factorial"},
            "heapq": {"heappush", "heappop", "heapify"}}
 STATEMENTS = (ast.Assign, ast.AugAssign, ast.If, ast.While, ast.For, ast.Return, ast.Break, ast.Continue, ast.Pass,
@@ -43,6 +47,18 @@ def names_bound(node):
     if isinstance(node, (ast.FunctionDef, ast.ClassDef)):
         return [node.name]
     return []
+
+
+def walked_names(part):
+    """The names of what a loop over this goes over; what stands in an index is only read."""
+    if isinstance(part, ast.Call) and isinstance(part.func, ast.Name) and part.func.id in ("list", "tuple", "sorted"):
+        return set()
+    if isinstance(part, ast.Call):
+        base = [part.func.value] if isinstance(part.func, ast.Attribute) else part.args
+        return set().union(*[walked_names(item) for item in base])
+    if isinstance(part, (ast.Attribute, ast.Subscript)):
+        return walked_names(part.value)
+    return {node.id for node in ast.walk(part) if isinstance(node, ast.Name)}
 
 
 class FormTest(unittest.TestCase):
@@ -180,6 +196,59 @@ class FormTest(unittest.TestCase):
         for name in attributes:
             self.assertFalse(any(hasattr(kind, name) for kind in (str, int, list, dict, set, bytes, tuple))
                              and name not in ("index", "count"), name)
+
+    def test_operators_call_nothing_that_an_object_may_hold(self):
+        functions, attributes = {}, set(TO_COME)
+        roots = []
+        for path in files():
+            for node in nodes(path):
+                if isinstance(node, ast.FunctionDef):
+                    functions.setdefault(node.name, []).append((path.name, node))
+                    if (node.name in DUNDERS and node.name not in FREE) or any(
+                            getattr(decorator, "id", "") == "property" for decorator in node.decorator_list):
+                        roots.append((path.name, node))
+                if isinstance(node, ast.Attribute) and isinstance(node.ctx, ast.Store):
+                    attributes.add(node.attr)
+                if isinstance(node, ast.ClassDef):
+                    inits = [part for part in node.body if isinstance(part, ast.FunctionDef) and part.name == "__init__"]
+                    functions.setdefault(node.name, []).extend((path.name, part) for part in inits)
+        seen, waiting = set(), roots
+        while waiting:
+            where, node = waiting.pop()
+            if node in seen:
+                continue
+            seen.add(node)
+            for call in [part for part in ast.walk(node) if isinstance(part, ast.Call)]:
+                name = getattr(call.func, "id", getattr(call.func, "attr", None))
+                if isinstance(call.func, ast.Attribute):
+                    self.assertNotIn(name, attributes, f"{where}:{call.lineno}")
+                waiting += functions.get(name, []) if name != "__init__" else []
+        self.assertGreater(len(seen), 100)
+
+    def test_lists_that_are_walked_have_no_second_name(self):
+        for path in files():
+            for node in nodes(path):
+                if not isinstance(node, ast.FunctionDef):
+                    continue
+                twins = [(part.targets[0].id, part.value.id) for part in ast.walk(node)
+                         if isinstance(part, ast.Assign) and isinstance(part.targets[0], ast.Name)
+                         and isinstance(part.value, ast.Name)]
+                for loop in [part for part in ast.walk(node) if isinstance(part, ast.For)]:
+                    walked = walked_names(loop.iter)
+                    changed = {part.func.value.id for part in ast.walk(loop) if isinstance(part, ast.Call)
+                               and isinstance(part.func, ast.Attribute) and isinstance(part.func.value, ast.Name)
+                               and part.func.attr in ("append", "extend", "insert", "pop", "remove", "setdefault")}
+                    changed |= {part.value.id for part in ast.walk(loop) if isinstance(part, ast.Subscript)
+                                and isinstance(part.ctx, ast.Store) and isinstance(part.value, ast.Name)}
+                    self.assertEqual(walked & changed, set(), f"{path.name}:{loop.lineno}")
+                    for one, other in twins:
+                        self.assertFalse({one, other} & walked and {one, other} & changed, f"{path.name}:{loop.lineno}")
+
+    def test_stars_stand_before_names(self):
+        for path in files():
+            for node in nodes(path):
+                if isinstance(node, ast.Starred) and isinstance(node.ctx, ast.Load):
+                    self.assertNotIsInstance(node.value, ast.GeneratorExp, f"{path.name}:{node.lineno}")
 
     def test_returns_of_text_and_length(self):
         for path in files():

@@ -4,12 +4,22 @@ import time
 import unittest
 
 from peekproof.allowed import covered, leaned
+from peekproof.check_counted import is_heights, shows_dearest, shows_soonest
+from peekproof.check_shapes import shows_shape
+from peekproof.check_solved import shows_greatest, shows_least, shows_sure
+from peekproof.costs import Costs
 from peekproof.crowds import Crowd
+from peekproof.dearest import dearest, spent
+from peekproof.errors import TooMany
 from peekproof.greatest import greatest, is_purse
 from peekproof.least import least
+from peekproof.nests import flattened, nested
 from peekproof.ratios import Ratio
+from peekproof.shapes import shape_of
+from peekproof.soonest import soonest
 from peekproof.steady import steady
 from peekproof.studies import Study
+from peekproof.sure import sure
 from peekproof.watches import Watch
 from tests.support import rng_of
 
@@ -42,11 +52,16 @@ def any_places(states, signs, rng):
     return [[rng.choice([*states, "lit", "dark"]) for _ in range(signs)] for _ in states]
 
 
+def three_places(states, signs, rng):
+    return [[rng.choice([*states, "lit", "dark", "dim"]) for _ in range(signs)] for _ in states]
+
+
 def large_study(rng, many, signs, corners, digits, places):
     names = [f"x{at}" for at in range(signs)]
     states = [f"q{at}" for at in range(many)]
     lines = [(state, f"a{at}", line) for at, (state, line) in enumerate(zip(states, places(states, signs, rng)))]
-    watch = Watch({f"a{at}": names for at in range(many)}, ["lit", "dark"], lines)
+    ends = ["lit", "dark"] + ["dim"] * any("dim" in line for _, _, line in lines)
+    watch = Watch({f"a{at}": names for at in range(many)}, ends, lines)
     return Study(watch, {arm: Crowd(names, [parts_of_one(rng, signs, digits) for _ in range(corners)])
                          for arm, _ in watch.arms})
 
@@ -70,6 +85,65 @@ class TimesTest(unittest.TestCase):
                     self.assertEqual(self.within(steady, study, dict(paper.corners), worths), dict(paper.table))
                     few = self.within(least, study, worths)
                     self.assertTrue(few.number.compared(paper.number) <= 0 if few else few.word == "trap")
+                    self.assertTrue(self.within(shows_greatest, study, paper, worths))
+                    self.assertTrue(self.within(shows_least, study, few, worths))
+                    self.assertTrue(self.within(shows_sure, study, sure(study)))
+
+    def test_largest_costs(self):
+        rng = rng_of(33)
+        for many, digits in ((24, 6), (40, 2)):
+            for places in (ring_places, any_places):
+                for signs, corners in ((2, 8), (12, 96)):
+                    study = large_study(rng, many, signs, corners, digits, places)
+                    costs = Costs(study.watch, {state: {sign: Ratio(rng.randint(1, 10 ** 13), rng.randint(1, 10 ** 13))
+                                                        for sign in study.watch.signs_of(state)} for state in study})
+                    paper = self.within(dearest, study, costs)
+                    self.assertTrue(self.within(shows_dearest, study, costs, paper))
+                    if paper:
+                        self.assertTrue(self.within(is_heights, study, costs, dict(paper.heights)))
+                    if (signs, places) == (12, any_places) or digits == 2:
+                        self.within(spent, study, costs, {state: rng.randrange(corners) for state in study}, 200)
+                    waits = self.within(soonest, study)
+                    self.assertTrue(self.within(shows_soonest, study, waits))
+
+    def test_long_waits(self):
+        names = ("on", "back")
+        for many, low in ((40, Ratio(1, 99)), (24, Ratio(1, 999999))):
+            lines = [(f"q{at}", "coin", (f"q{at + 1}" if at < many - 1 else "lit", f"q{max(at - 1, 0)}")) for at in range(many)]
+            watch = Watch({"coin": names}, ["lit"], lines)
+            for crowd in (Crowd.between(names, low, Ratio(98, 99)), Crowd.between(names, 0, Ratio(98, 99))):
+                study, costs = Study(watch, {"coin": crowd}), Costs.each_trial(watch)
+                waits, most = self.within(soonest, study), self.within(dearest, study, costs)
+                self.assertTrue(self.within(shows_soonest, study, waits) and self.within(shows_dearest, study, costs, most))
+        study = Study(Watch({f"a{at}": names for at in range(40)}, ["lit"],
+                            [(f"q{at}", f"a{at}", (f"q{at + 1}" if at < 39 else "lit", "q0")) for at in range(40)]),
+                      {f"a{at}": Crowd.between(names, Ratio(rng, 99), Ratio(97, 98)) for at, rng in enumerate(range(1, 41))})
+        self.assertTrue(self.within(shows_soonest, study, self.within(soonest, study)))
+        self.assertTrue(self.within(shows_dearest, study, Costs.each_trial(study.watch),
+                                    self.within(dearest, study, Costs.each_trial(study.watch))))
+
+    def test_largest_shapes(self):
+        rng = rng_of(34)
+        for signs, corners, digits in ((4, 2, 6), (12, 2, 6), (12, 24, 6), (12, 24, 2), (4, 1, 6)):
+            study = large_study(rng, 16, signs, corners, digits, three_places)
+            outer = Study(Watch({"x": ("dim", "lit", "dark")}, ["lit"], [("s", "x", ("s", "s", "lit"))]),
+                          {"x": Crowd.all_sure(("dim", "lit", "dark"))})
+            self.within(flattened, outer, {"x": study})
+            try:
+                shape = self.within(shape_of, study)
+                self.assertTrue(self.within(shows_shape, study, shape))
+                self.assertEqual(self.within(nested, outer, {"x": study}).crowds[0][1].corners[0][0], shape.corners[0][2])
+            except TooMany as error:
+                self.assertEqual(error.what, "corners")
+        # All corners of a shape with just as many as may be: two coins of each kind tell where the end is drawn.
+        lines = [(f"q{at}", f"a{at}", (f"q{at + 1}" if at < 11 else "dark", ("lit", "dark", "dim")[at - at // 3 * 3]))
+                 for at in range(12)]
+        study = Study(Watch({arm: ("on", "off") for _, arm, _ in lines}, ["lit", "dark", "dim"], lines),
+                      {arm: Crowd.between(("on", "off"), Ratio(at + 700000, 999983), Ratio(at + 900000, 999979))
+                       for at, (_, arm, _) in enumerate(lines)})
+        shape = self.within(shape_of, study)
+        self.assertGreater(len(shape), 3)
+        self.assertTrue(self.within(shows_shape, study, shape))
 
     def test_long_ways_and_rings_with_sure_corners(self):
         names = ("on", "back")
