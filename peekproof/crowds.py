@@ -3,7 +3,7 @@
 from peekproof.checks import are_labels, is_listed, is_one_of
 from peekproof.errors import BadCrowd, BadNumbers, BadTable, NoSign, TooMany
 from peekproof.mixtures import needed_of
-from peekproof.ratios import Ratio, as_ratio, as_ratios, as_shares, greatest_of, least_of, mean_of
+from peekproof.ratios import Ratio, as_chance, as_ratios, as_shares, greatest_of, least_of, mean_of
 from peekproof.tables import Table, behind_table, text_of_part
 from peekproof.words import read_parts
 
@@ -125,7 +125,7 @@ class Crowd:
         """The crowd of two signs whose first one has a chance from low to high."""
         if not are_labels(signs, 2, 2):
             raise BadCrowd("signs")
-        least, most = _chance_of(low), _chance_of(high)
+        least, most = as_chance(low), as_chance(high)
         if least is None:
             raise BadCrowd("low")
         if most is None or most.is_below(least):
@@ -152,13 +152,6 @@ def _corners_of(corners, many):
 
 def _possible_signs(signs, corners):
     return tuple([sign for at, sign in enumerate(signs) if any([corner[at].top > 0 for corner in corners])])
-
-
-def _chance_of(value):
-    chance = as_ratio(value)
-    if chance is None or chance.sign < 0 or chance.compared(1) > 0:
-        return None
-    return chance
 
 
 def _needed_numbers(crowd):

@@ -1,7 +1,7 @@
 """Watches out of several watches."""
 
-from peekproof.errors import BadWatch, UnlikeSigns
-from peekproof.standings import DARK, LIT, SameSigns, arms_of, explored
+from peekproof.errors import BadWatch
+from peekproof.standings import DARK, LIT, SameSigns, arms_of, explored, refuse_unlike_arms
 from peekproof.watches import Joined, Watch
 
 _MOST_WATCHES = 6
@@ -44,22 +44,23 @@ def joined(one, other):
 def any_of(*watches):
     """The watch that is lit as soon as one of these is lit."""
     _refuse_bad_watches(watches)
-    return _made_of(AnyLit(watches))
+    return watch_lit_or_dark(AnyLit(watches))
 
 
 def all_of(*watches):
     """The watch that is lit as soon as all of these are lit."""
     _refuse_bad_watches(watches)
-    return _made_of(AllLit(watches))
+    return watch_lit_or_dark(AllLit(watches))
 
 
 def in_order(*watches):
     """The watch that runs these one behind the other, each one when the one ahead of it is lit."""
     _refuse_bad_watches(watches)
-    return _made_of(OneByOne(watches))
+    return watch_lit_or_dark(OneByOne(watches))
 
 
-def _made_of(machine):
+def watch_lit_or_dark(machine):
+    """The watch of a machine whose ends are lit and dark."""
     lines, met = explored(machine)
     return Watch(arms_of(machine, lines, met), (LIT, DARK), lines)
 
@@ -67,9 +68,4 @@ def _made_of(machine):
 def _refuse_bad_watches(watches):
     if not 1 <= len(watches) <= _MOST_WATCHES or not all([isinstance(watch, Watch) for watch in watches]):
         raise BadWatch("watches")
-    known = {}
-    for watch in watches:
-        for arm, signs in watch.arms:
-            if known.get(arm, signs) != signs:
-                raise UnlikeSigns(arm)
-            known[arm] = signs
+    refuse_unlike_arms(watches)

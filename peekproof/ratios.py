@@ -132,6 +132,12 @@ def as_ratio(value):
     return Ratio(value) if is_integer(value) else None
 
 
+def as_chance(value):
+    """The Ratio of a ratio from 0 to 1, None for any other value."""
+    chance = as_ratio(value)
+    return None if chance is None or chance.top < 0 or chance.top > chance.bottom else chance
+
+
 def as_ratios(value):
     """The tuple of the Ratios that a list or a tuple of ratios tells, None for any other value."""
     if not is_listed(value):

@@ -98,6 +98,16 @@ def refuse_unlike_signs(one, other):
             raise UnlikeSigns(arm)
 
 
+def refuse_unlike_arms(watches):
+    """Refuses the first arm, watch by watch, that an earlier watch has with other signs or in another order."""
+    known = {}
+    for watch in watches:
+        for arm, signs in watch.arms:
+            if known.get(arm, signs) != signs:
+                raise UnlikeSigns(arm)
+            known[arm] = signs
+
+
 def met_from(first, ways):
     """The states met from the first one on, and the ends met; ways tells the places behind each state, in order."""
     states = [first]

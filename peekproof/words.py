@@ -66,6 +66,14 @@ class Words:
         self.here += 1
         return share
 
+    def take_count(self, most):
+        """An integer from 1 to this one must stand here."""
+        count = self._ratio_ahead()
+        if not count.is_whole or not 1 <= count.top <= most:
+            self.refuse()
+        self.here += 1
+        return count.top
+
     def take_cost(self):
         """A ratio above 0 must stand here."""
         cost = self._ratio_ahead()

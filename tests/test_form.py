@@ -191,8 +191,8 @@ class FormTest(unittest.TestCase):
                     if isinstance(node, ast.Attribute) and isinstance(node.ctx, ast.Store):
                         attributes.setdefault(node.attr, []).append(part.name)
         self.assertEqual(sorted(set(methods) & set(attributes)), [])
-        self.assertEqual(sorted(generators), ["rows", "rows_to"])
-        self.assertEqual([len(methods[name]) for name in sorted(generators)], [1, 1])
+        self.assertEqual(sorted(generators), ["least_sets", "origins", "rows", "rows_to"])
+        self.assertEqual([len(methods[name]) for name in sorted(generators)], [1, 1, 1, 1])
         for name in attributes:
             self.assertFalse(any(hasattr(kind, name) for kind in (str, int, list, dict, set, bytes, tuple))
                              and name not in ("index", "count"), name)

@@ -4,6 +4,8 @@ import time
 import unittest
 
 from peekproof.allowed import covered, leaned
+from peekproof.boards import AtLeast, Board, Named, Weighing
+from peekproof.check_boards import shows_tied, shows_wrongest
 from peekproof.check_counted import is_heights, shows_dearest, shows_soonest
 from peekproof.check_shapes import shows_shape
 from peekproof.check_solved import shows_greatest, shows_least, shows_sure
@@ -11,19 +13,28 @@ from peekproof.costs import Costs
 from peekproof.crowds import Crowd
 from peekproof.dearest import dearest, spent
 from peekproof.errors import TooMany
+from peekproof.forms import pull, wrongest
 from peekproof.greatest import greatest, is_purse
 from peekproof.least import least
+from peekproof.lost import Lost
+from peekproof.made import in_a_row
+from peekproof.misread import Misread
 from peekproof.nests import flattened, nested
+from peekproof.one_row import on_one
 from peekproof.ratios import Ratio
 from peekproof.shapes import shape_of
 from peekproof.soonest import soonest
 from peekproof.steady import steady
 from peekproof.studies import Study
 from peekproof.sure import sure
+from peekproof.tables import Table
+from peekproof.ties import tied
+from peekproof.twice import Doubled
 from peekproof.watches import Watch
 from tests.support import rng_of
 
 MOST_SECONDS = 5
+HALF = Ratio(1, 2)
 
 
 def parts_of_one(rng, many, digits):
@@ -158,6 +169,54 @@ class TimesTest(unittest.TestCase):
             loose = Study(watch, {"coin": Crowd.between(names, 0, 1)})
             self.assertEqual(self.within(greatest, loose).number, 1)
             self.assertEqual(self.within(least, loose).word, "trap")
+
+    def test_largest_boards(self):
+        rng = rng_of(35)
+        names = [Named(f"n{at}") for at in range(60)]
+        ratios = {name.name: Ratio(rng.randint(1, 10 ** 13), 10 ** 13 + rng.randint(1, 10 ** 6)) for name in names}
+        weights = [rng.randint(1, 5) for _ in names]
+        weighing = Weighing(sum(weights) // 2, *zip(names, weights))
+        tens = [Weighing(25, *[(name, rng.randint(1, 9)) for name in names[at:at + 10]]) for at in range(0, 60, 10)]
+        deep = names[0]
+        for at in range(1, 12):
+            deep = AtLeast(3, deep, *names[5 * at:5 * at + 5])
+        for board in (AtLeast(30, *names), weighing, AtLeast(3, *tens), Weighing(17, *zip(tens, weights)), deep):
+            self.within(board, ratios)
+            self.within(pull, board, ratios, board.names[-1])
+            self.assertEqual(self.within(lambda: ~(~board)), board)
+            self.assertEqual(self.within(Board.read, str(board)), board)
+            self.within(lambda: board.rest([name for name in board.names[::3]], [name for name in board.names[1::3]]))
+            with self.assertRaises(TooMany):
+                self.within(lambda: list(board.least_sets()))
+            if board is not weighing:
+                self.assertTrue(self.within(shows_wrongest, board, ratios, self.within(wrongest, board, ratios)))
+        self.assertEqual(len(self.within(lambda: list(AtLeast(59, *names).least_sets()))), 60)
+        for many in (1, 20, 30, 59, 60):
+            self.assertTrue(self.within(shows_tied, many, ratios, self.within(tied, many, ratios)))
+        watches = {f"n{at}": in_a_row(2 + at // 30 * 3) for at in range(60)}
+        self.assertEqual(len(self.within(on_one, AtLeast(31, *names), watches)), 7)
+
+    def test_largest_handled_studies(self):
+        rng = rng_of(36)
+        for many, digits in ((12, 6), (20, 2)):
+            study = large_study(rng, many, 6, 1, digits, any_places)
+            names = study.watch.arms[0][1]
+            study = Study(study.watch, {arm: Crowd(names, [[*crowd.corners[0][:2], *[Ratio(0)] * 3, Ratio(1) - crowd.corners[0][0]
+                                                           - crowd.corners[0][1]] for _ in range(3)])
+                                        for arm, crowd in study.crowds})
+            doubled = Study(study.watch, {arm: study.crowds[0][1] for arm, _ in study.crowds})
+            table = Table(names, names, [[HALF if other in (at, (at + 1) - 6 * (at == 5)) else 0 for other in range(6)]
+                                         for at in range(6)])
+            for handled in (self.within(Lost, study, 1), self.within(Lost, study, None), self.within(Doubled, doubled, 1),
+                            self.within(Misread, study, table)):
+                self.within(greatest, handled)
+                self.within(least, handled)
+                self.within(handled.carried, Costs.each_trial(study.watch))
+        wide = large_study(rng, 40, 12, 96, 2, any_places)
+        self.within(Misread, wide, {})
+        lines = [(f"q{at}", "a", (f"q{at + 1}" if at < 99 else "lit", "dark")) for at in range(100)]
+        long = Study(Watch({"a": ("x", "y")}, ["lit", "dark"], lines), {"a": Crowd.between(("x", "y"), Ratio(1, 3), HALF)})
+        self.assertEqual(len(self.within(Lost, long, 1).watch), 200)
 
     def test_large_crowds(self):
         rng = rng_of(32)
