@@ -6,7 +6,7 @@ from peekproof.words import Words
 _MOST_NAMES = 60
 _MOST_WEIGHT = 200
 _MOST_OPEN = 11
-_MOST_ENOUGH = {"of": _MOST_NAMES, "by": _MOST_WEIGHT}
+_MOST_ENOUGH = {"of": 60, "by": 200}
 
 
 def read_board(text):

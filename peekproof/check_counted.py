@@ -1,9 +1,9 @@
 """Whether papers of what is counted trial by trial are right: by adding, comparing and walking alone."""
 
 from peekproof.dearest import Dearest, Endless
-from peekproof.moves import none_above, surpluses_of, worth_moves
+from peekproof.moves import none_above, surpluses_of, told_amounts, worth_moves
 from peekproof.outlays import cost_moves, leads_out, refuse_unfit_costs
-from peekproof.ratios import Ratio, as_ratio
+from peekproof.ratios import Ratio
 from peekproof.showing import amounts_over, are_kept, corners_over, is_equal_ratio, place_behind, ranks_over
 from peekproof.showing import ratios_over, states_of
 from peekproof.soonest import Seldom, Soonest
@@ -13,12 +13,8 @@ from peekproof.waits import Waits, refuse_no_end, worths_of_end
 def is_heights(study, costs, value):
     """Whether value is a dict of heights over just the states of the study."""
     refuse_unfit_costs(study, costs)
-    if not isinstance(value, dict) or len(value) != len(study):
-        return False
-    heights = {state: as_ratio(value.get(state)) for state in study.states}
-    if any([height is None or height.sign < 0 for height in heights.values()]):
-        return False
-    return none_above(cost_moves(study, costs).surpluses(heights))
+    heights = told_amounts(study, value)
+    return heights is not None and none_above(cost_moves(study, costs).surpluses(heights))
 
 
 def shows_dearest(study, costs, value):

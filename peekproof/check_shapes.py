@@ -48,7 +48,8 @@ def _is_world(study, row, world):
     if world is None or not all([_is_told_choice(study, state, world[state], many) for state in study.states]):
         return False
     chances = {end: unit_of(many, at) for at, end in enumerate(study.watch.ends)}
-    chances = {**chances, **{state: as_ratios(world[state][1]) for state in study.states}}
+    for state in study.states:
+        chances[state] = as_ratios(world[state][1])
     if chances[study.watch.first] != row:
         return False
     return all([_mean_row(study, state, world[state][0], chances) == chances[state] for state in study.states])

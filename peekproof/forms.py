@@ -87,7 +87,7 @@ def strong(board, ratios, *effects):
     for effect in effects:
         if effect not in board:
             raise NoStudy(effect)
-    return form_of(board, {**chances, **{effect: Ratio(1) for effect in effects}})
+    return form_of(board, {name: Ratio(1) if name in effects else chance for name, chance in chances.items()})
 
 
 def wrongest(board, ratios):

@@ -1,8 +1,8 @@
 """The greatest mean that free worlds get, and purses."""
 
-from peekproof.moves import gain_ranks, none_above, refuse_no_study, refuse_too_many_states, told_worths, worth_moves
+from peekproof.moves import gain_ranks, none_above, refuse_no_study, refuse_too_many_states, told_amounts, told_worths
+from peekproof.moves import worth_moves
 from peekproof.papers import Paper, told_at
-from peekproof.ratios import as_ratio
 from peekproof.solving import best_world, leading_picks
 
 
@@ -39,9 +39,5 @@ def is_purse(study, table, worths=None):
     """Whether table is a dict from just the states to ratios from 0 on that is a purse."""
     refuse_no_study(study)
     told = told_worths(study, worths)
-    if not isinstance(table, dict) or len(table) != len(study):
-        return False
-    numbers = {state: as_ratio(table.get(state)) for state in study.states}
-    if any([number is None or number.sign < 0 for number in numbers.values()]):
-        return False
-    return none_above(worth_moves(study, told).surpluses(numbers))
+    numbers = told_amounts(study, table)
+    return numbers is not None and none_above(worth_moves(study, told).surpluses(numbers))

@@ -1,8 +1,6 @@
 """How the signs of a plain study are handled: what is made of its states, its arms and its crowds.
 
-A pocket is a pair (left, held): how much of the budget is left, None without one, and the tuple of the signs held. An
-act is a tuple (sign, drawn, signs told, pocket): a sign of the handled study, the plain sign that it draws, None if
-it draws none, the plain signs of which the plain watch is told then, and the pocket behind it.
+A pocket is a pair (left, held): how much of the budget is left, None without one, and the tuple of the signs held.
 """
 
 from peekproof.crowds import Crowd
@@ -10,6 +8,16 @@ from peekproof.errors import TooMany
 from peekproof.labels import dotted, refuse_long_labels, refuse_twice
 from peekproof.ratios import Ratio
 from peekproof.watches import Watch
+
+
+class Act:
+    """What a sign of a handled study does: it draws a plain sign, or None, and tells some; then there is a pocket."""
+
+    def __init__(self, label, draws, tells, behind):
+        self.label = label
+        self.draws = draws
+        self.tells = tells
+        self.behind = behind
 
 
 class Handling:
@@ -33,7 +41,7 @@ class Handling:
 
     def acts_of(self, arm, pocket):
         """The acts of this arm with this pocket, in order."""
-        return [(sign, sign, (sign,), pocket) for sign in self.crowds[arm].signs]
+        return [Act(sign, sign, (sign,), pocket) for sign in self.crowds[arm].signs]
 
     def many_corners(self, arm, pocket):
         """How many corners there are over the signs of these acts."""
@@ -67,7 +75,7 @@ class Spending(Handling):
         if pocket[0] == 0:
             return acts
         behind = pocket if pocket[0] is None else (pocket[0] - 1, ())
-        return [*acts, *[(dotted(sign, self.word), sign, (sign,) * self.times, behind) for sign, _, _, _ in acts]]
+        return [*acts, *[Act(dotted(act.draws, self.word), act.draws, act.tells * self.times, behind) for act in acts]]
 
     def many_corners(self, arm, pocket):
         """How many corners there are over the signs of these acts."""
@@ -101,15 +109,12 @@ class Handiwork:
         _refuse_bad_labels(self.stands, signs, plain.ends)
         self.crowds = {label: Crowd(signs[label], handling.corners_made(arm, pocket))
                        for label, (arm, pocket) in asked.items()}
-        self.hears = {}
-        lines = []
-        for label, (state, pocket) in self.stands.items():
-            acts = handling.acts_of(plain.arm_of(state), pocket)
-            told = [_told_at(plain, state, signs_told) for _, _, signs_told, _ in acts]
-            self.hears[label] = {act[0]: (act[1], heard) for act, (_, heard) in zip(acts, told)}
-            places = [handling.state_label(place, act[3]) if place in plain else place
-                      for act, (place, _) in zip(acts, told)]
-            lines.append((label, handling.arm_label(plain.arm_of(state), pocket), places))
+        acts = {label: handling.acts_of(plain.arm_of(state), pocket) for label, (state, pocket) in self.stands.items()}
+        self.hears = {label: {act.label: (act.draws, _heard_from(plain, state, act.tells)) for act in acts[label]}
+                      for label, (state, _) in self.stands.items()}
+        lines = [(label, handling.arm_label(plain.arm_of(state), pocket),
+                  [_place_of(handling, _place_after(plain, state, act.tells), act.behind) for act in acts[label]])
+                 for label, (state, pocket) in self.stands.items()]
         self.watch = Watch(signs, plain.ends, lines)
 
 
@@ -138,7 +143,8 @@ def _signs_made(handling, asked):
     """The signs of each arm that is made; refuses too many arms, signs and corners."""
     if len(asked) > handling.MOST_ARMS:
         raise TooMany("arms", handling.MOST_ARMS)
-    signs = {label: [act[0] for act in handling.acts_of(arm, pocket)] for label, (arm, pocket) in asked.items()}
+    signs = {label: [act.label for act in handling.acts_of(arm, pocket)]
+             for label, (arm, pocket) in asked.items()}
     if any([len(listed) > Crowd.MOST_SIGNS for listed in signs.values()]):
         raise TooMany("signs", Crowd.MOST_SIGNS)
     if any([handling.many_corners(arm, pocket) > Crowd.MOST_CORNERS for arm, pocket in asked.values()]):
@@ -154,12 +160,24 @@ def _refuse_bad_labels(states, signs, ends):
     refuse_twice(states, ends)
 
 
-def _told_at(watch, state, signs):
-    """The place to which these signs lead from the state, and those of them that are told ahead of an end."""
-    place = state
+def _heard_from(watch, state, signs):
+    """Those of the signs that are told from the state on: none behind an end."""
     heard = []
     for sign in signs:
-        if place in watch:
+        if _place_after(watch, state, heard) in watch:
             heard.append(sign)
+    return tuple(heard)
+
+
+def _place_after(watch, state, signs):
+    """The place to which the signs lead from the state; an end is for ever."""
+    place = state
+    for sign in signs:
+        if place in watch:
             place = watch.place(place, sign)
-    return place, tuple(heard)
+    return place
+
+
+def _place_of(handling, place, pocket):
+    """The place that stands for a plain one with this pocket."""
+    return handling.state_label(place, pocket) if place in handling.plain.watch else place

@@ -1,7 +1,7 @@
 """Studies whose signs are read as others, by the chances of tables."""
 
 from peekproof.errors import BadTable, NoArm
-from peekproof.handling import Handling
+from peekproof.handling import Act, Handling
 from peekproof.labels import dotted
 from peekproof.moves import refuse_no_study
 from peekproof.pockets import Handled
@@ -21,7 +21,7 @@ class Misreading(Handling):
     def acts_of(self, arm, pocket):
         """Each sign with each one as which it may be read."""
         table = self.tables[arm]
-        return [(dotted(sign, target), sign, (target,), pocket)
+        return [Act(dotted(sign, target), sign, (target,), pocket)
                 for sign in table.sources for target, _ in table.chances_of(sign)]
 
     def corners_made(self, arm, pocket):

@@ -40,6 +40,14 @@ def told_worths(study, worths):
     return told
 
 
+def told_amounts(study, table):
+    """The dict of the Ratios from 0 on that a dict tells of just the states, None for any other value."""
+    if not isinstance(table, dict) or len(table) != len(study):
+        return None
+    told = {state: as_ratio(table.get(state)) for state in study.states}
+    return None if any([amount is None or amount.sign < 0 for amount in told.values()]) else told
+
+
 def refuse_too_many_states(study):
     """Refuses a study that is too large to be solved."""
     if len(study) > Study.MOST:

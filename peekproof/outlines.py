@@ -1,4 +1,4 @@
-"""The corners of the shape of a sure study, found along its outline, and the worths of its sides."""
+"""The corners of the shape of a sure study, found along its outline, and the purses of its sides."""
 
 from peekproof.errors import TooMany
 from peekproof.ratios import mean_of
@@ -15,58 +15,20 @@ class Corner:
         self.world = {state: (pick, line) for state, pick, line in zip(supports.states, picks, chances)}
 
 
-class Outline:
-    """The outline of the shape of a sure study with at most three ends, which may have so many corners."""
-
-    def __init__(self, study, most):
-        self.supports = Supports(study)
-        self.most = most
-        self.corners = []
-        self.purses = {}
-        self._find_corners(self.supports.many, [0] * len(study))
-        self._find_sides(self.supports.many)
-
-    def _find_corners(self, many, picks):
-        one = self._furthest((0, 1, 1)[:many], (1, 0, 1)[:many], picks)
-        other = self._furthest((1, 0, 0)[:many], (0, 1, 0)[:many], one.picks)
-        self._add(one)
-        if one.row != other.row:
-            self._add(other)
-            if many == 3:
-                self._trace(one, other, 1)
-                self._trace(one, other, -1)
-
-    def _find_sides(self, many):
-        """With three corners or more the sides are just those that were found along the outline."""
-        if len(self.corners) <= 2:
-            rows = [corner.row for corner in self.corners]
-            self.purses = {worths: self._best(worths, self.corners[0].picks)[1] for worths in few_worths(rows, many)}
-
-    def _trace(self, one, other, turn):
-        """Adds what corners lie on this side of the line between two corners, and the purses of the sides there."""
-        waiting = [(one, other)]
-        while waiting:
-            here, there = waiting.pop()
-            worths = across(here.row, there.row, turn)
-            picks, purse = self._best(worths, here.picks)
-            if purse[self.supports.states[0]] == mean_of(here.row, worths):
-                self.purses[worths] = purse
-            else:
-                middle = self._furthest(worths, along(here.row, there.row), picks)
-                self._add(middle)
-                waiting = [*waiting, (here, middle), (middle, there)]
-
-    def _add(self, corner):
-        if len(self.corners) == self.most:
-            raise TooMany("corners", self.most)
-        self.corners.append(corner)
-
-    def _best(self, worths, picks):
-        picks, numbers = self.supports.best(worths, picks)
-        return picks, {state: number for state, number in zip(self.supports.states, numbers)}
-
-    def _furthest(self, worths, second, picks):
-        return Corner(self.supports, self.supports.furthest(worths, second, picks))
+def outlined(study, most):
+    """The Corners of the shape of a sure study, at most so many, and a dict from the worths of its sides to purses."""
+    supports = Supports(study)
+    many = supports.many
+    one = _furthest(supports, (0, 1, 1)[:many], (1, 0, 1)[:many], [0] * len(study))
+    other = _furthest(supports, (1, 0, 0)[:many], (0, 1, 0)[:many], one.picks)
+    corners = [one] if one.row == other.row else [one, other]
+    if len(corners) == 2 and many == 3:
+        there, purses = _traced(supports, one, other, 1, most)
+        back, more = _traced(supports, one, other, -1, most)
+        if there or back:
+            return _within([*corners, *there, *back], most), {**purses, **more}
+    worths = few_worths([corner.row for corner in corners], many)
+    return corners, {told: _best(supports, told, one.picks)[1] for told in worths}
 
 
 def few_worths(rows, many):
@@ -83,3 +45,38 @@ def few_worths(rows, many):
 def unit_of(many, end):
     """Worth 1 for this end, 0 for the others."""
     return tuple([int(at == end) for at in range(many)])
+
+
+def _traced(supports, one, other, turn, most):
+    """The corners on this side of the line between two corners, and the purses of the sides there."""
+    corners = []
+    purses = {}
+    waiting = [(one, other)]
+    while waiting:
+        here, there = waiting.pop()
+        worths = across(here.row, there.row, turn)
+        picks, purse = _best(supports, worths, here.picks)
+        if purse[supports.states[0]] == mean_of(here.row, worths):
+            purses[worths] = purse
+        else:
+            middle = _furthest(supports, worths, along(here.row, there.row), picks)
+            corners = _within([*corners, middle], most)
+            waiting = [*waiting, (here, middle), (middle, there)]
+    return corners, purses
+
+
+def _within(corners, most):
+    """The corners, if they are not too many."""
+    if len(corners) > most:
+        raise TooMany("corners", most)
+    return corners
+
+
+def _best(supports, worths, picks):
+    """The picks of a best world for these worths, and the least purse, a dict."""
+    picks, numbers = supports.best(worths, picks)
+    return picks, {state: number for state, number in zip(supports.states, numbers)}
+
+
+def _furthest(supports, worths, second, picks):
+    return Corner(supports, supports.furthest(worths, second, picks))

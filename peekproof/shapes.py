@@ -3,7 +3,7 @@
 from peekproof.crowds import Crowd
 from peekproof.errors import TooMany, Unsure
 from peekproof.moves import refuse_no_study
-from peekproof.outlines import Outline
+from peekproof.outlines import outlined
 from peekproof.papers import Paper
 from peekproof.ratios import as_shares, ascending, mean_of
 from peekproof.sure import sure
@@ -59,11 +59,9 @@ def shape_of(study):
         raise TooMany("ends", Shape.MOST_ENDS)
     if len(study) > Shape.MOST_STATES:
         raise TooMany("states", Shape.MOST_STATES)
-    outline = Outline(study, Shape.MOST_CORNERS)
-    order = ascending([corner.row for corner in outline.corners])
-    corners = [outline.corners[at] for at in order]
-    sides = [Side(worths, outline.purses[worths][study.watch.first], outline.purses[worths])
-             for worths in sorted(outline.purses)]
+    found, purses = outlined(study, Shape.MOST_CORNERS)
+    corners = [found[at] for at in ascending([corner.row for corner in found])]
+    sides = [Side(worths, purses[worths][study.watch.first], purses[worths]) for worths in sorted(purses)]
     return Shape(study.watch.ends, [corner.row for corner in corners], [corner.world for corner in corners], sides,
                  dict(shown.ranks))
 

@@ -19,7 +19,8 @@ DUNDERS = set("""__init__ __eq__ __repr__ __str__ __len__ __enter__ __exit__ __c
 FREE = ("__init__", "__iter__", "__call__", "__enter__", "__exit__")
 # Attributes that the document gives to classes that are still to come, or to objects that are made elsewhere.
 TO_COME = ("index", "count", "rest", "way", "ring", "left", "study", "seen", "now", "kept", "rungs", "slots", "bars", "form",
-           "here", "beyond", "steps", "names", "fear", "peak", "story", "hall", "pairs")
+           "here", "beyond", "steps", "names", "fear", "peak", "story", "hall", "pairs", "ahead", "held", "length", "power",
+           "calm", "real", "quiet", "is_lit", "row", "factors")
 LIBRARY = {"math": {"gcd", "lcm", "isqrt", "comb", "perm", "factorial"},
            "heapq": {"heappush", "heappop", "heapify"}}
 STATEMENTS = (ast.Assign, ast.AugAssign, ast.If, ast.While, ast.For, ast.Return, ast.Break, ast.Continue, ast.Pass,

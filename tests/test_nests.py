@@ -199,6 +199,13 @@ class ErrorsTest(Case):
     def test_sizes(self):
         self.assertEqual(len(flattened(plain(100), {"a0": INNER}).watch), 200)
         self.refused(TooMany, {"what": "states", "most": 200}, flattened, plain(101), {"a0": INNER})
+        mixed = plain(100).watch
+        lines = [(state, "b0" if state == "q99" else "a0", mixed.places_of(state)) for state in mixed]
+        wide = Study(Watch({arm: ("lit", "dark") for arm in ("a0", "b0")}, ["lit", "dark"], lines),
+                     {arm: Crowd.all_sure(("lit", "dark")) for arm in ("a0", "b0")})
+        three = Study(Watch({"c": ("x", "y")}, ["lit"], [(state, "c", ("lit", "lit")) for state in "xyz"]), {"c": Crowd.all_sure("x y".split())})
+        self.refused(TooMany, {"what": "states", "most": 200}, flattened, wide, {"a0": INNER, "b0": three})
+        self.assertEqual(len(flattened(wide, {"a0": INNER}).watch), 199)
         self.assertEqual(len(flattened(plain(40, True), {}).crowds), 40)
         self.refused(TooMany, {"what": "arms", "most": 40}, flattened, plain(41, True), {})
         self.refused(TooMany, {"what": "states", "most": 200}, flattened, plain(101, True),

@@ -1,0 +1,159 @@
+"""The names of the interface stand in their files, with the arguments and the methods that are told."""
+
+import importlib
+import inspect
+import unittest
+
+FUNCTIONS = """
+checks is_integer(value) is_within(value,least,most) is_name(value) is_label(value)
+ratios added(ratios) least_of(ratios) greatest_of(ratios)
+papers fixed(value)
+allowed allowed(crowd,chances) covered(crowd,wide) leaned(crowd)
+check_allowed shows_allowed(crowd,chances,value) shows_covered(crowd,wide,value) shows_leaned(crowd,value)
+made in_a_row(many,*,signs=,arm=) in_all(many,*,signs=,arm=) of_last(window,many,*,signs=,arm=) spotted(row,*,signs=,arm=)
+made sooner(up,down,*,signs=,arm=) ahead_by(by,last,looks=,*,signs=,arm=) cut(watch,last,dark=)
+joined joined(one,other) any_of(*watches) all_of(*watches) in_order(*watches)
+likeness alike(one,other) shows_alike(one,other,value) folded(watch) settled(watch,dark=)
+sure sure(study)
+steady steady(study,corners,worths=)
+greatest greatest(study,worths=) is_purse(study,table,worths=)
+least least(study,worths=)
+check_solved shows_sure(study,value) shows_greatest(study,value,worths=) shows_least(study,value,worths=)
+dearest dearest(study,costs) dearest_of(*pairs) spent(study,costs,corners,trials)
+soonest soonest(study,end=)
+check_counted is_heights(study,costs,value) shows_dearest(study,costs,value) shows_soonest(study,value,end=)
+shapes shape_of(study)
+nests nested(study,inners) flattened(study,inners) outer_row(study,inners,row) flat_costs(study,inners,costs,inner_costs)
+check_shapes shows_shape(study,value)
+forms pull(board,ratios,name) greatest_lit(board,studies) least_lit(board,studies) lit_within(board,studies,tables)
+forms strong(board,ratios,*effects) wrongest(board,ratios)
+one_row on_one(board,watches)
+ties tied(many,ratios)
+check_boards shows_lit(board,studies,value) shows_wrongest(board,ratios,value) shows_tied(many,ratios,value)
+misread misread(study,tables)
+"""
+CLASSES = """
+ratios Ratio(top,bottom=) over compared is_below read of sign is_whole MOST_DIGITS __add__ __sub__ __mul__ __neg__ __abs__ __bool__
+ratios Ratio(top,bottom=) __eq__ __str__ __repr__
+papers Paper(word,*parts) __eq__
+papers Denial(word,*parts)
+tables Table(sources,targets,rows) __getitem__ chances_of __mul__ __eq__ __iter__ __str__ read same MOST
+crowds Crowd(signs,corners) needed __len__ __iter__ __contains__ possible span greatest_mean least_mean mixture lean __or__
+crowds Crowd(signs,corners) __mul__ __eq__ all_sure just between __str__ read MOST_SIGNS MOST_CORNERS
+allowed Mixed(weights)
+allowed Parted(factors)
+allowed Covered(lines)
+allowed Beyond(index,factors)
+allowed Lean(kept,left)
+watches Watch(arms,ends,states) LIT MOST arm_of signs_of places_of place after lit_by reached begun rows_to __len__ __iter__
+watches Watch(arms,ends,states) __contains__ __eq__ __and__ __str__ read
+watches Joined(one,other) pair_of
+likeness Alike(pairs)
+likeness Unlike(row)
+studies Study(watch,crowds) MOST is_sure arm_of crowd_of corners_of possible_of place with_crowd rows __len__ __iter__ __contains__
+studies Study(watch,crowds) __eq__ __str__ read
+sure Sure(ranks)
+sure Trap(row,corners)
+greatest Greatest(number,table,corners,ranks) at
+least Least(number,table,corners,ranks) at
+costs Costs(watch,table) each_trial of __getitem__ __add__ __mul__ __bool__ __eq__ __str__ read
+dearest Dearest(number,heights,corners,ranks) at
+dearest Endless(row,corners,ranks)
+soonest Soonest(number,means,corners,purse) at
+soonest Seldom(purse)
+shapes Side(worths,number,table)
+shapes Shape(ends,corners,worlds,sides,ranks) as_crowd __contains__ __len__ __iter__ MOST_ENDS MOST_STATES MOST_CORNERS
+boards Board(branches,weights,enough,names) __len__ __contains__ __iter__ __eq__ __or__ __and__ __invert__ __call__ lights rest
+boards Board(branches,weights,enough,names) least_sets __str__ read
+boards Named(name)
+boards AnyOf(*branches)
+boards AllOf(*branches)
+boards AtLeast(enough,*branches)
+boards Weighing(enough,*pairs)
+forms LitAtMost(number,papers)
+forms LitAtLeast(number,papers)
+forms LitWithin(number,tables)
+forms Wrongest(number,effects)
+ties Tied(number,weights,lots)
+pockets Handled(handling) BUDGET origins origin drawn heard told carried
+misread Misread(study,tables)
+lost Lost(study,most=)
+twice Doubled(study,most=)
+"""
+METHODS = """
+costs Costs.each_trial(watch) Costs.of(watch,signs) Costs.read(text,watch)
+boards Board.lights(names) Board.rest(lit=,dark=) Board.least_sets() Board.read(text) Board.__call__(ratios)
+pockets Handled.origins() Handled.origin(state) Handled.drawn(state,sign) Handled.heard(state,sign) Handled.told(row)
+pockets Handled.carried(costs)
+dearest Dearest.at(state)
+soonest Soonest.at(state)
+shapes Shape.as_crowd()
+"""
+
+
+def told(call):
+    """The name of a function or class with its arguments, as the lists above write them."""
+    parts, has_star = [], False
+    for name, parameter in inspect.signature(call).parameters.items():
+        if name == "self":
+            continue
+        if parameter.kind is parameter.VAR_POSITIONAL:
+            parts.append(f"*{name}")
+            has_star = True
+            continue
+        if parameter.kind is parameter.KEYWORD_ONLY and not has_star:
+            parts.append("*")
+            has_star = True
+        parts.append(name + "=" * (parameter.default is not parameter.empty))
+    return f"({','.join(parts)})"
+
+
+def lines(text):
+    return [line.split(" ") for line in text.strip().splitlines()]
+
+
+class InterfaceTest(unittest.TestCase):
+    def defined(self, module, name):
+        value = getattr(importlib.import_module(f"peekproof.{module}"), name)
+        self.assertEqual(value.__module__, f"peekproof.{module}")
+        return value
+
+    def test_functions(self):
+        for module, *calls in lines(FUNCTIONS):
+            for call in calls:
+                name, arguments = call.split("(")
+                self.assertEqual(told(self.defined(module, name)), f"({arguments}", call)
+
+    def test_classes_and_what_stands_in_their_bodies(self):
+        for module, call, *names in lines(CLASSES):
+            name, arguments = call.split("(")
+            kind = self.defined(module, name)
+            self.assertEqual(told(kind), f"({arguments}", call)
+            self.assertIn("__init__", vars(kind))
+            for item in names:
+                self.assertIn(item, vars(kind), f"{call} {item}")
+
+    def test_arguments_of_methods(self):
+        for module, *calls in lines(METHODS):
+            for call in calls:
+                path, arguments = call.split("(")
+                kind, name = path.split(".")
+                self.assertEqual(told(getattr(self.defined(module, kind), name)), f"({arguments}", call)
+
+    def test_words_of_papers(self):
+        from peekproof.papers import Denial, Paper
+        denials = {"Parted", "Beyond", "Unlike", "Trap", "Endless", "Seldom"}
+        for module, call, *_ in lines(CLASSES):
+            kind = self.defined(module, call.split("(")[0])
+            if issubclass(kind, Paper) and kind not in (Paper, Denial):
+                parts = list(inspect.signature(kind).parameters)
+                paper = kind(*[[at] for at in range(len(parts))])
+                self.assertEqual((paper.word, paper.parts), (kind.__name__.lower(), tuple((at,) for at in range(len(parts)))))
+                self.assertEqual([getattr(paper, part) for part in parts], [(at,) for at in range(len(parts))])
+                self.assertEqual(bool(paper), kind.__name__ not in denials)
+                self.assertEqual(isinstance(paper, Denial), kind.__name__ in denials)
+                self.assertEqual(paper, kind(**{part: [at] for at, part in enumerate(parts)}))
+
+
+if __name__ == "__main__":
+    unittest.main()
