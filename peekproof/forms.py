@@ -56,15 +56,15 @@ def pull(board, ratios, name):
 
 def greatest_lit(board, studies):
     """The greatest chance that the board is lit."""
-    refuse_no_studies(board, studies)
-    papers = {name: greatest(study_of_name(studies, name)) for name in board.names}
+    refuse_missing_studies(board, studies)
+    papers = {name: greatest(studies[name]) for name in board.names}
     return LitAtMost(form_of(board, {name: paper.number for name, paper in papers.items()}), papers)
 
 
 def least_lit(board, studies):
     """The least chance that the board is lit, over worlds that go on."""
-    refuse_no_studies(board, studies)
-    papers = {name: _surely(least(study_of_name(studies, name))) for name in board.names}
+    refuse_missing_studies(board, studies)
+    papers = {name: _surely(least(studies[name])) for name in board.names}
     return LitAtLeast(form_of(board, {name: paper.number for name, paper in papers.items()}), papers)
 
 
@@ -104,25 +104,14 @@ def refuse_bad_ratios(board, ratios):
     return told_chances(board, ratios)
 
 
-def refuse_no_studies(board, studies):
-    """Refuses what is no board and no dict."""
+def refuse_missing_studies(board, studies):
+    """Refuses what is no board, what is no dict, and what tells no study for one of the board's names."""
     refuse_no_board(board, "board")
     if not isinstance(studies, dict):
         raise BadStudy("studies")
-
-
-def study_of_name(studies, name):
-    """The study with this name."""
-    if not isinstance(studies.get(name), Study):
-        raise NoStudy(name)
-    return studies[name]
-
-
-def refuse_missing_studies(board, studies):
-    """Refuses what is no board, and what tells no study for one of its names."""
-    refuse_no_studies(board, studies)
     for name in board.names:
-        study_of_name(studies, name)
+        if not isinstance(studies.get(name), Study):
+            raise NoStudy(name)
 
 
 def is_fair_purse(study, table):

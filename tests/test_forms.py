@@ -138,17 +138,26 @@ class LitTest(Case):
             self.assertIsInstance(most, LitAtMost)
             self.assertIsInstance(few, LitAtLeast)
 
+    def test_a_missing_study_ahead_of_those_that_are_refused(self):
+        board = AllOf(AnyOf(X, Y), Z)
+        large = long_study(41)
+        for call in (greatest_lit, least_lit):
+            self.refused(NoStudy, {"name": "y"}, call, board, {"x": large, "z": 5})
+            self.refused(NoStudy, {"name": "x"}, call, board, {"x": None, "y": large})
+            self.refused(NoStudy, {"name": "y"}, call, board, {"x": QUARTER, "z": large})
+            self.refused(NoStudy, {"name": "z"}, call, board, {"x": large, "y": LOOSE})
+            self.refused(NoStudy, {"name": "z"}, call, board, {"x": LOOSE, "y": large, "z": TURN})
+            self.refused(NoStudy, {"name": "z"}, call, board, {"x": QUARTER, "y": QUARTER, ("z",): LOOSE})
+
     def test_the_first_name_at_fault_counts(self):
         board = AllOf(AnyOf(X, Y), Z)
         large = long_study(41)
         for call in (greatest_lit, least_lit):
-            self.refused(TooMany, {"what": "states", "most": 40}, call, board, {"x": large, "z": 5})
-            self.refused(NoStudy, {"name": "x"}, call, board, {"x": None, "y": large})
-            self.refused(NoStudy, {"name": "y"}, call, board, {"x": QUARTER, "z": large})
             self.refused(TooMany, {"what": "states", "most": 40}, call, board, {"x": QUARTER, "y": large, "z": LOOSE})
-            self.refused(NoStudy, {"name": "z"}, call, board, {"x": QUARTER, "y": QUARTER, ("z",): LOOSE})
-        self.refused(Unsure, {"trap": sure(LOOSE)}, least_lit, board, {"x": LOOSE, "y": large})
-        self.refused(TooMany, {"what": "states", "most": 40}, least_lit, board, {"x": large, "y": LOOSE})
+        looser = Study(sooner(3, 3), dict(LOOSE.crowds))
+        self.refused(Unsure, {"trap": sure(LOOSE)}, least_lit, board, {"x": LOOSE, "y": large, "z": QUARTER})
+        self.refused(Unsure, {"trap": sure(LOOSE)}, least_lit, board, {"x": QUARTER, "y": LOOSE, "z": looser})
+        self.refused(TooMany, {"what": "states", "most": 40}, least_lit, board, {"x": large, "y": LOOSE, "z": QUARTER})
         self.assertEqual(greatest_lit(board, {"x": LOOSE, "y": QUARTER, "z": LOOSE}).number, 1)
 
     def test_errors(self):
