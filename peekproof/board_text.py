@@ -13,8 +13,7 @@ def read_board(text):
     """What this text tells: a name, or (word, what is enough, the branches likewise, their weights)."""
     words = Words(text)
     told = _read(words, [], 0)
-    if words.word_ahead() is not None:
-        words.refuse()
+    words.take_end()
     return told
 
 

@@ -8,8 +8,7 @@ def read_costs(text, watch):
     words = Words(text)
     if words.word_ahead() == "-":
         words.take_word("-")
-        if words.word_ahead() is not None:
-            words.refuse()
+        words.take_end()
         return {}
     table = {}
     later = watch.states

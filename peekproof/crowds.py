@@ -101,7 +101,9 @@ class Crowd:
     def __eq__(self, other):
         if not isinstance(other, Crowd):
             return False
-        return self.signs == other.signs and _needed_numbers(self) == _needed_numbers(other)
+        if self.signs != other.signs:
+            return False
+        return self.corners == other.corners or _needed_numbers(self) == _needed_numbers(other)
 
     @staticmethod
     def all_sure(signs):

@@ -3,8 +3,8 @@
 from peekproof.checks import is_one_of
 from peekproof.made import ends_with
 from peekproof.papers import Denial, Paper
-from peekproof.standings import LIT, met_from, refuse_unlike_signs
-from peekproof.watches import Watch, refuse_no_watch
+from peekproof.standings import LIT, met_from, row_to
+from peekproof.watches import Watch, refuse_no_watch, refuse_unlike_watches
 
 
 class Alike(Paper):
@@ -25,7 +25,7 @@ class Unlike(Denial):
 
 def alike(one, other):
     """An Alike, or an Unlike with the least row that parts the two watches."""
-    _refuse_unlike_watches(one, other)
+    refuse_unlike_watches(one, other)
     start = (one.first, other.first)
     if not _are_like_places(one, other, start):
         return Unlike(())
@@ -38,7 +38,7 @@ def alike(one, other):
         for sign in one.signs_of(state):
             pair = (one.place(state, sign), other.place(there, sign))
             if not _are_like_places(one, other, pair):
-                return Unlike([*_row_to(met[at], steps), sign])
+                return Unlike([*row_to(met[at], steps), sign])
             if pair[0] in one and pair not in steps:
                 steps[pair] = (met[at], sign)
                 met.append(pair)
@@ -48,7 +48,7 @@ def alike(one, other):
 
 def shows_alike(one, other, value):
     """Whether value shows that the two watches are alike, or that they are not."""
-    _refuse_unlike_watches(one, other)
+    refuse_unlike_watches(one, other)
     if isinstance(value, Alike):
         return _are_closed_pairs(one, other, value.pairs)
     return isinstance(value, Unlike) and _is_parting_row(one, other, value.row)
@@ -76,21 +76,6 @@ def settled(watch, dark="dark"):
     ways = {state: [bears.get(place, place) for place in watch.places_of(state)] for state in watch}
     met = met_from(watch.first, ways)[0]
     return _watch_of(watch, ends, [state for state in watch if state in met], bears)
-
-
-def _refuse_unlike_watches(one, other):
-    refuse_no_watch(one, "one")
-    refuse_no_watch(other, "other")
-    refuse_unlike_signs(one, other)
-
-
-def _row_to(pair, steps):
-    """The signs by which the pair was come to."""
-    signs = []
-    while steps[pair] is not None:
-        pair, sign = steps[pair]
-        signs.append(sign)
-    return signs[::-1]
 
 
 def _are_like_places(one, other, pair):

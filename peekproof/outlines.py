@@ -2,7 +2,7 @@
 
 from peekproof.errors import TooMany
 from peekproof.ratios import mean_of
-from peekproof.supports import Supports, across, along
+from peekproof.supports import Supports, across, toward
 
 
 class Corner:
@@ -59,7 +59,7 @@ def _traced(supports, one, other, turn, most):
         if purse[supports.states[0]] == mean_of(here.row, worths):
             purses[worths] = purse
         else:
-            middle = _furthest(supports, worths, along(here.row, there.row), picks)
+            middle = _furthest(supports, worths, toward(here.row, there.row), picks)
             corners = _within([*corners, middle], most)
             waiting = [*waiting, (here, middle), (middle, there)]
     return corners, purses

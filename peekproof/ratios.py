@@ -165,6 +165,14 @@ def mean_of(chances, numbers):
     return added([chance * number for chance, number in zip(chances, numbers)])
 
 
+def product_of(ratios):
+    """The product of these Ratios; neighbours come first, so that what they share is cancelled early."""
+    held = [Ratio(1), *ratios]
+    while len(held) > 1:
+        held = [held[at] * held[at + 1] if at + 1 < len(held) else held[at] for at in range(0, len(held), 2)]
+    return held[0]
+
+
 def common_bottom(ratios):
     """The least number that each of these Ratios times it is whole."""
     bottom = 1
@@ -176,6 +184,19 @@ def common_bottom(ratios):
 def scaled_tops(ratios, bottom):
     """The integers that these Ratios are over such a bottom."""
     return [ratio.top * (bottom // ratio.bottom) for ratio in ratios]
+
+
+def means_compared(corners, numbers, bar):
+    """For each corner -1, 0 or 1, as the mean of the numbers is less than the bar, equal to it or greater."""
+    bottom = common_bottom([*numbers, bar])
+    tops = scaled_tops(numbers, bottom)
+    limit = scaled_tops([bar], bottom)[0]
+    orders = []
+    for corner in corners:
+        scale = common_bottom(corner)
+        more = sum([share * top for share, top in zip(scaled_tops(corner, scale), tops)]) - scale * limit
+        orders.append((more > 0) - (more < 0))
+    return orders
 
 
 def ascending(rows):

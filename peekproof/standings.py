@@ -124,3 +124,12 @@ def met_from(first, ways):
                     ends.append(place)
         at += 1
     return tuple(states), tuple(ends)
+
+
+def row_to(pair, ways):
+    """The signs by which the pair was come to, where ways tells of each pair the one ahead of it and the sign."""
+    signs = []
+    while ways[pair] is not None:
+        pair, sign = ways[pair]
+        signs.append(sign)
+    return signs[::-1]

@@ -59,7 +59,7 @@ def across(one, other, turn):
     return as_direction([(second - third) * turn, (third - first) * turn, (first - second) * turn])
 
 
-def along(one, other):
+def toward(one, other):
     """The direction from one row to the other one."""
     return as_direction([there - here for here, there in zip(one, other)])
 

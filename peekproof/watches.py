@@ -146,9 +146,7 @@ class Joined(Watch):
     """Two watches joined."""
 
     def __init__(self, one, other):
-        refuse_no_watch(one, "one")
-        refuse_no_watch(other, "other")
-        refuse_unlike_signs(one, other)
+        refuse_unlike_watches(one, other)
         machine = BothEnded((one, other))
         lines, met = explored(machine)
         super().__init__(arms_of(machine, lines, met), ("both", "one", "other", "none"), lines)
@@ -167,6 +165,13 @@ def refuse_no_watch(watch, part):
     """Refuses any value that is no Watch."""
     if not isinstance(watch, Watch):
         raise BadWatch(part)
+
+
+def refuse_unlike_watches(one, other):
+    """Refuses any values that are not two watches whose common arms have the same signs in the same order."""
+    refuse_no_watch(one, "one")
+    refuse_no_watch(other, "other")
+    refuse_unlike_signs(one, other)
 
 
 def _refuse_bad_arms(arms):

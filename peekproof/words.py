@@ -19,6 +19,19 @@ class Words:
         at = self.here + by
         return self.words[at] if at < len(self.words) else None
 
+    def before(self, mark):
+        """All words of the text ahead of the first such mark."""
+        return self.words[:self.words.index(mark)] if mark in self.words else self.words
+
+    def skip(self, many):
+        """Goes on behind so many words."""
+        self.here += many
+
+    def take_end(self):
+        """Nothing more must stand here."""
+        if self.word_ahead() is not None:
+            self.refuse()
+
     def refuse(self):
         """The word that would be read next cannot stand, or is missing."""
         raise BadText(0, self.here)
@@ -81,6 +94,14 @@ class Words:
             self.refuse()
         self.here += 1
         return cost
+
+    def take_amount(self):
+        """A ratio from 0 on must stand here."""
+        amount = self._ratio_ahead()
+        if amount.sign < 0:
+            self.refuse()
+        self.here += 1
+        return amount
 
     def _ratio_ahead(self):
         word = self.word_ahead()

@@ -1,5 +1,6 @@
 """Handled studies, made by the words of the document alone: states, arms, signs, corners and what is told."""
 
+import itertools
 from fractions import Fraction
 
 from peekproof.crowds import Crowd
@@ -96,6 +97,82 @@ def most_lit(study, state, left, twice):
                     if twice:
                         other = study.watch.place(place, sign) if place in study.watch else place
                     values.append(most_lit(study, other, left - 1, twice))
+                total += number(chance) * max(values)
+        best = max(best, total)
+    return best
+
+
+def late_pockets(signs, most):
+    """The pockets of a late study: what is left, and the rows of signs held, shorter ones first."""
+    found = []
+    for left in range(most, -1, -1):
+        for many in range(most - left + 1):
+            found += [(left, row) for row in itertools.combinations_with_replacement(signs, many)]
+    return found
+
+
+def delaying(study, most):
+    """The Study that Late is, and for each state and sign (plain state, left, held, drawn, heard)."""
+    plain, crowds = study.watch, dict(study.crowds)
+    signs = list(plain.arms[0][1])
+    lines, arms, made, told = [], {}, {}, {}
+
+    def name(pocket):
+        return f"k{pocket[0]}b" + "".join(str(signs.index(sign)) for sign in pocket[1])
+
+    def label(place, pocket):
+        return f"{place}.{name(pocket)}" if place in plain else place
+
+    for state in plain.states:
+        for pocket in late_pockets(signs, most):
+            left, held = pocket
+            arm, here, places, shown = plain.arm_of(state), label(state, pocket), [], []
+            for sign in signs:
+                shown.append(sign)
+                places.append(label(plain.place(state, sign), pocket))
+                told[here, sign] = (state, left, held, sign, (sign,))
+            for sign in signs if left else []:
+                shown.append(f"{sign}.held")
+                places.append(label(state, (left - 1, tuple(sorted([*held, sign], key=signs.index)))))
+                told[here, shown[-1]] = (state, left, held, sign, ())
+            late = [sign for sign in signs if sign in held]
+            for sign in late:
+                rest = list(held)
+                rest.remove(sign)
+                shown.append(f"{sign}.late")
+                places.append(label(plain.place(state, sign), (left, tuple(rest))))
+                told[here, shown[-1]] = (state, left, held, None, (sign,))
+            corners = [list(corner) for corner in crowds[arm].corners]
+            if left:
+                corners = [corner for plain_corner in crowds[arm].corners for corner in moved(plain_corner)]
+            corners = [corner + [Ratio(0)] * len(late) for corner in corners]
+            corners += [[int(other == f"{sign}.late") for other in shown] for sign in late]
+            title = f"{arm}.{name(pocket)}"
+            arms[title], made[title] = shown, Crowd(shown, corners)
+            lines.append((here, title, places))
+    return Study(Watch(arms, plain.ends, lines), made), told
+
+
+def most_lit_late(study, state, left, held):
+    """The greatest chance of lit from a plain state on, where no ring is possible: by all choices of what is told."""
+    if state not in study.watch:
+        return Fraction(int(state == "lit"))
+
+    def behind(sign, now):
+        return most_lit_late(study, study.watch.place(state, sign), left, now)
+
+    def without(sign):
+        rest = list(held)
+        rest.remove(sign)
+        return tuple(rest)
+    best = max([Fraction(0), *[behind(sign, without(sign)) for sign in set(held)]])
+    for corner in study.corners_of(state):
+        total = Fraction(0)
+        for sign, chance in zip(study.watch.signs_of(state), corner):
+            if number(chance):
+                values = [behind(sign, held)]
+                if left:
+                    values.append(most_lit_late(study, state, left - 1, tuple(sorted([*held, sign]))))
                 total += number(chance) * max(values)
         best = max(best, total)
     return best

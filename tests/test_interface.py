@@ -31,6 +31,14 @@ one_row on_one(board,watches)
 ties tied(many,ratios)
 check_boards shows_lit(board,studies,value) shows_wrongest(board,ratios,value) shows_tied(many,ratios,value)
 misread misread(study,tables)
+within within(one,other,crowds=)
+leads lead(one,other,crowds) ahead(one,other,crowds)
+bets fault(study,bet) bet_of(study,table) together(log,**bets)
+walks least_capital(study,bet) purse_of(study,bet)
+logs row_study(study,row)
+check_bets shows_within(one,other,value,crowds=) shows_lead(one,other,crowds,value) shows_ahead(one,other,crowds,value)
+check_bets shows_capital(study,bet,value)
+ladders first_fit(ladder,level)
 """
 CLASSES = """
 ratios Ratio(top,bottom=) over compared is_below read of sign is_whole MOST_DIGITS __add__ __sub__ __mul__ __neg__ __abs__ __bool__
@@ -79,6 +87,20 @@ pockets Handled(handling) BUDGET origins origin drawn heard told carried
 misread Misread(study,tables)
 lost Lost(study,most=)
 twice Doubled(study,most=)
+late Late(study,most=)
+within Within(pairs)
+within Row(row)
+leads Lead(number,lines)
+leads Ahead(number,lines)
+bets Bet(watch,factors) factor __call__ along __eq__ __str__ read
+walks Capital(number,table,row)
+walks Never()
+walks Ruined(row)
+walks Ring(way,ring,rest)
+logs Log(study,*signs) add back chance __len__ __iter__
+ladders Ladder(rungs) __len__ __iter__ __contains__ study_of numbers __eq__ MOST
+ladders Rung(name,held,ahead)
+ladders NoRung(held)
 """
 METHODS = """
 costs Costs.each_trial(watch) Costs.of(watch,signs) Costs.read(text,watch)
@@ -88,6 +110,9 @@ pockets Handled.carried(costs)
 dearest Dearest.at(state)
 soonest Soonest.at(state)
 shapes Shape.as_crowd()
+bets Bet.factor(state,sign) Bet.__call__(row) Bet.along(row) Bet.read(text)
+logs Log.add(sign) Log.back()
+ladders Ladder.study_of(name) Ladder.numbers()
 """
 
 
@@ -100,6 +125,9 @@ def told(call):
         if parameter.kind is parameter.VAR_POSITIONAL:
             parts.append(f"*{name}")
             has_star = True
+            continue
+        if parameter.kind is parameter.VAR_KEYWORD:
+            parts.append(f"**{name}")
             continue
         if parameter.kind is parameter.KEYWORD_ONLY and not has_star:
             parts.append("*")
@@ -142,7 +170,7 @@ class InterfaceTest(unittest.TestCase):
 
     def test_words_of_papers(self):
         from peekproof.papers import Denial, Paper
-        denials = {"Parted", "Beyond", "Unlike", "Trap", "Endless", "Seldom"}
+        denials = {"Parted", "Beyond", "Unlike", "Trap", "Endless", "Seldom", "Row", "Never", "Ruined", "Ring", "NoRung"}
         for module, call, *_ in lines(CLASSES):
             kind = self.defined(module, call.split("(")[0])
             if issubclass(kind, Paper) and kind not in (Paper, Denial):

@@ -4,7 +4,9 @@ import time
 import unittest
 
 from peekproof.allowed import covered, leaned
+from peekproof.bets import Bet, bet_of, fault, together
 from peekproof.boards import AtLeast, Board, Named, Weighing
+from peekproof.check_bets import shows_ahead, shows_capital, shows_lead, shows_within
 from peekproof.check_boards import shows_tied, shows_wrongest
 from peekproof.check_counted import is_heights, shows_dearest, shows_soonest
 from peekproof.check_shapes import shows_shape
@@ -15,7 +17,11 @@ from peekproof.dearest import dearest, spent
 from peekproof.errors import TooMany
 from peekproof.forms import pull, wrongest
 from peekproof.greatest import greatest, is_purse
+from peekproof.ladders import Ladder, first_fit
+from peekproof.late import Late
+from peekproof.leads import ahead, lead
 from peekproof.least import least
+from peekproof.logs import Log, row_study
 from peekproof.lost import Lost
 from peekproof.made import in_a_row
 from peekproof.misread import Misread
@@ -30,7 +36,9 @@ from peekproof.sure import sure
 from peekproof.tables import Table
 from peekproof.ties import tied
 from peekproof.twice import Doubled
+from peekproof.walks import least_capital, purse_of
 from peekproof.watches import Watch
+from peekproof.within import within
 from tests.support import rng_of
 
 MOST_SECONDS = 5
@@ -217,6 +225,77 @@ class TimesTest(unittest.TestCase):
         lines = [(f"q{at}", "a", (f"q{at + 1}" if at < 99 else "lit", "dark")) for at in range(100)]
         long = Study(Watch({"a": ("x", "y")}, ["lit", "dark"], lines), {"a": Crowd.between(("x", "y"), Ratio(1, 3), HALF)})
         self.assertEqual(len(self.within(Lost, long, 1).watch), 200)
+
+    def test_largest_pairs(self):
+        rng = rng_of(37)
+        for many, digits in ((23, 6), (39, 2)):
+            for signs, corners in ((2, 8), (12, 96)):
+                study = large_study(rng, many, signs, corners, digits, ring_places)
+                arm, names = study.watch.arms[0]
+                other = Watch({arm: names}, ["dark"], [("o", arm, ["dark"] * signs)])
+                crowds = dict(study.crowds)
+                paper = self.within(lead, study.watch, other, crowds)
+                self.assertEqual(len(paper.lines), many + 1)
+                self.assertTrue(self.within(shows_lead, study.watch, other, crowds, paper))
+                paper = self.within(ahead, study.watch, other, crowds)
+                self.assertTrue(self.within(shows_ahead, study.watch, other, crowds, paper))
+                inside = self.within(within, study.watch, study.watch, crowds)
+                self.assertTrue(inside and self.within(shows_within, study.watch, study.watch, inside, crowds))
+        names = [f"x{at}" for at in range(12)]
+        rings = [Watch({"a": names}, ["lit"], [(f"r{at}", "a", [f"r{(at + 1 + by) % size}" for by in range(12)]) for at in range(size)])
+                 for size in (20, 10)]
+        self.assertEqual(len(self.within(within, *rings).pairs), 20)
+        long = [Watch({"a": names}, ["lit"], [(f"r{at}", "a", [f"r{(at + 1) % size}"] * 12) for at in range(size)]) for size in (199, 200)]
+        self.within(shows_lead, *long, {"a": Crowd.all_sure(names)}, None)
+
+    def test_largest_bets(self):
+        rng = rng_of(38)
+        for many, digits in ((24, 6), (40, 2)):
+            for signs, corners in ((2, 8), (12, 96)):
+                study = large_study(rng, many, signs, corners, digits, any_places)
+                table = dict(greatest(study).table)
+                bet = self.within(bet_of, study, table)
+                self.assertIsNone(self.within(fault, study, bet))
+                self.assertEqual(self.within(purse_of, study, bet), table)
+                drawn = [Bet(study.watch, {state: [Ratio(rng.randint(least, 10 ** 6), rng.randint(1, 10 ** 6)) for _ in range(signs)]
+                                           for state in study}) for least in (1, 10 ** 6 - 10)]
+                for other in (bet, *drawn):
+                    self.assertTrue(self.within(shows_capital, study, other, self.within(least_capital, study, other)))
+                row, place = [], study.watch.first
+                while place in study.watch and len(row) < 200:
+                    row.append(study.possible_of(place)[0])
+                    place = study.place(place, row[-1])
+                self.within(lambda: [bet(row), list(bet.along(row)), together([("x", sign) for sign in row], x=bet)])
+                self.within(lambda: Log(study, *row).chance)
+        runs = Study(in_a_row(40), {"trial": Crowd.between(("hit", "miss"), Ratio(1, 99), Ratio(98, 99))})
+        bet = bet_of(runs, dict(greatest(runs).table))
+        self.assertEqual(self.within(least_capital, runs, bet).number, 1)
+        row = ["hit", "miss"] * 5000
+        wild = Bet(runs.watch, {state: (Ratio(999983, 7919), Ratio(7919, 999979)) for state in runs})
+        self.within(wild, row)
+        self.assertEqual(len(self.within(row_study, runs, row[:200]).watch), 200)
+        self.within(lambda: Log(runs, *row[:2000]).chance)
+
+    def test_largest_ladders(self):
+        rng = rng_of(39)
+        study = large_study(rng, 24, 12, 24, 6, any_places)
+        ladder = self.within(Ladder, [(f"r{at}", study) for at in range(12)])
+        self.within(ladder.numbers)
+        self.within(first_fit, ladder, 0)
+        wide = self.within(lambda: Ladder([(f"r{at}", Study.read(str(study))) for at in range(12)]))
+        self.assertEqual(wide, ladder)
+
+    def test_largest_late_studies(self):
+        rng = rng_of(40)
+        for many, digits in ((6, 6), (10, 2)):
+            study = large_study(rng, many, 2, 23, digits, any_places)
+            late = self.within(Late, Study(study.watch, {arm: study.crowds[0][1] for arm, _ in study.crowds}), 1)
+            self.within(greatest, late)
+            self.within(least, late)
+            self.within(late.carried, Costs.each_trial(study.watch))
+        lines = [(f"q{at}", "a", (f"q{at + 1}" if at < 19 else "lit", "dark")) for at in range(20)]
+        long = Study(Watch({"a": ("x", "y")}, ["lit", "dark"], lines), {"a": Crowd.between(("x", "y"), Ratio(1, 3), HALF)})
+        self.assertEqual(len(self.within(Late, long, 2).watch), 200)
 
     def test_large_crowds(self):
         rng = rng_of(32)
