@@ -32,7 +32,7 @@ def _read(words, names, opened):
 
 
 def _read_branches(words, names, opened):
-    word, _ = words.take_later(("any", "all", "of", "by"))
+    word = words.take_one_of(("any", "all", "of", "by"))
     enough = words.take_count(_MOST_ENOUGH[word]) if word in _MOST_ENOUGH else 1
     branches = []
     weights = []

@@ -1,5 +1,6 @@
 """The text of costs, read word by word."""
 
+from peekproof.ratios import Ratio
 from peekproof.words import Words
 
 
@@ -25,5 +26,5 @@ def _read_signs(words, signs):
     later = signs
     while not costs or words.word_ahead() in later:
         sign, later = words.take_later(later)
-        costs[sign] = words.take_cost()
+        costs[sign] = words.take_above(Ratio(0))
     return costs

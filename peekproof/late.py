@@ -56,7 +56,7 @@ class Delaying(Handling):
     def _name_of(self, pocket):
         left, held = pocket
         places = [str(at) for other in held for at, sign in enumerate(self.signs) if sign == other]
-        return f"k{left}b{''.join(places)}"
+        return "".join([f"k{left}b", *places])
 
 
 class Late(Handled):

@@ -12,13 +12,13 @@ class OnBoard(SameSigns):
 
     def __init__(self, board, watches):
         super().__init__(watches)
-        self.board = board
+        self.claim = board
 
     def end_of(self, places):
         """The end that a standing is, None if it is a state."""
-        known = {name: place == LIT for name, place, watch in zip(self.board.names, places, self.watches)
+        known = {name: place == LIT for name, place, watch in zip(self.claim.names, places, self.watches)
                  if place not in watch}
-        left = rest_of(self.board, known)
+        left = rest_of(self.claim, known)
         if left is True:
             return LIT
         return DARK if left is False else None

@@ -7,17 +7,22 @@ def chance_of_enough(enough, weights, chances):
     """The chance that the weights that come add up to enough or more, if each one comes apart, with its chance."""
     tops = {0: 1}
     bottom = 1
+    left = sum(weights)
     for weight, chance in zip(weights, chances):
-        tops = _with_one_more(tops, weight, chance, enough)
+        left = left - weight
+        tops = _with_one_more(tops, weight, chance, enough, left)
         bottom = bottom * chance.bottom
     return Ratio(tops.get(enough, 0), bottom)
 
 
-def _with_one_more(tops, weight, chance, enough):
-    """What comes to each sum, up to enough, as integers over one bottom, if this weight is one more."""
+def _with_one_more(tops, weight, chance, enough, left):
+    """What comes to each sum, up to enough, as integers over one bottom, if this weight is one more.
+
+    Sums that are not enough even with all weights that are left count no more.
+    """
     made = {}
     for total, top in tops.items():
-        made[total] = made.get(total, 0) + top * (chance.bottom - chance.top)
-        reached = min(total + weight, enough)
-        made[reached] = made.get(reached, 0) + top * chance.top
+        for reached, share in ((total, chance.bottom - chance.top), (min(total + weight, enough), chance.top)):
+            if reached + left >= enough:
+                made[reached] = made.get(reached, 0) + top * share
     return made

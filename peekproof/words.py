@@ -1,6 +1,6 @@
 """The words of a text, read one behind the other up to the first one that cannot stand."""
 
-from peekproof.checks import is_label
+from peekproof.checks import is_label, is_name
 from peekproof.errors import BadText
 from peekproof.ratios import Ratio, ratio_of_word
 
@@ -22,6 +22,10 @@ class Words:
     def before(self, mark):
         """All words of the text ahead of the first such mark."""
         return self.words[:self.words.index(mark)] if mark in self.words else self.words
+
+    def to_come(self):
+        """All words that are not read yet."""
+        return self.words[self.here:]
 
     def skip(self, many):
         """Goes on behind so many words."""
@@ -50,12 +54,33 @@ class Words:
         self.here += 1
         return word
 
-    def take_later(self, labels):
-        """One of these labels must stand here; those behind it are told with it."""
+    def take_name(self, taken):
+        """A name must stand here that is none of those that are taken."""
         word = self.word_ahead()
-        if word not in labels:
+        if not is_name(word) or word in taken:
             self.refuse()
         self.here += 1
+        return word
+
+    def take_sign_or_stop(self):
+        """A label must stand here, or a dash, which is told as None."""
+        word = self.word_ahead()
+        if word != "-" and not is_label(word):
+            self.refuse()
+        self.here += 1
+        return None if word == "-" else word
+
+    def take_one_of(self, known):
+        """One of these words must stand here."""
+        word = self.word_ahead()
+        if word not in known:
+            self.refuse()
+        self.here += 1
+        return word
+
+    def take_later(self, labels):
+        """One of these labels must stand here; those behind it are told with it."""
+        word = self.take_one_of(labels)
         return word, labels[[at for at, label in enumerate(labels) if label == word][0] + 1:]
 
     def take_labels(self, most, mark):
@@ -79,29 +104,36 @@ class Words:
         self.here += 1
         return share
 
+    def take_ratio(self):
+        """A ratio must stand here."""
+        ratio = self._ratio_ahead()
+        self.here += 1
+        return ratio
+
+    def take_amount(self):
+        """A ratio from 0 on must stand here."""
+        if self._ratio_ahead().sign < 0:
+            self.refuse()
+        return self.take_ratio()
+
+    def take_above(self, least):
+        """A ratio above this one must stand here."""
+        if not least.is_below(self._ratio_ahead()):
+            self.refuse()
+        return self.take_ratio()
+
+    def take_integer(self):
+        """An integer from 0 on must stand here."""
+        if not self._ratio_ahead().is_whole:
+            self.refuse()
+        return self.take_amount().top
+
     def take_count(self, most):
         """An integer from 1 to this one must stand here."""
         count = self._ratio_ahead()
         if not count.is_whole or not 1 <= count.top <= most:
             self.refuse()
-        self.here += 1
-        return count.top
-
-    def take_cost(self):
-        """A ratio above 0 must stand here."""
-        cost = self._ratio_ahead()
-        if cost.sign <= 0:
-            self.refuse()
-        self.here += 1
-        return cost
-
-    def take_amount(self):
-        """A ratio from 0 on must stand here."""
-        amount = self._ratio_ahead()
-        if amount.sign < 0:
-            self.refuse()
-        self.here += 1
-        return amount
+        return self.take_ratio().top
 
     def _ratio_ahead(self):
         word = self.word_ahead()

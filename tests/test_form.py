@@ -17,10 +17,6 @@ METHODS = set("""append clear copy count endswith extend find get index insert i
 DUNDERS = set("""__init__ __eq__ __repr__ __str__ __len__ __enter__ __exit__ __call__ __iter__ __add__ __sub__ __mul__
     __and__ __or__ __neg__ __abs__ __bool__ __invert__ __contains__ __getitem__ __setitem__""".split())
 FREE = ("__init__", "__iter__", "__call__", "__enter__", "__exit__")
-# Attributes that the document gives to classes that are still to come, or to objects that are made elsewhere.
-TO_COME = ("index", "count", "rest", "way", "ring", "left", "study", "seen", "now", "kept", "rungs", "slots", "bars", "form",
-           "here", "beyond", "steps", "names", "fear", "peak", "story", "hall", "pairs", "ahead", "held", "length", "power",
-           "calm", "real", "quiet", "is_lit", "row", "factors")
 LIBRARY = {"math": {"gcd", "lcm", "isqrt", "comb", "perm", "factorial"},
            "heapq": {"heappush", "heappop", "heapify"}}
 STATEMENTS = (ast.Assign, ast.AugAssign, ast.If, ast.While, ast.For, ast.Return, ast.Break, ast.Continue, ast.Pass,
@@ -174,7 +170,10 @@ class FormTest(unittest.TestCase):
                 self.assertIsInstance(node, (ast.Expr, ast.ImportFrom, ast.FunctionDef, ast.ClassDef, ast.Assign))
             for node in ast.walk(tree):
                 for decorator in getattr(node, "decorator_list", []):
-                    self.assertIn(getattr(decorator, "id", ""), ("property", "staticmethod", "classmethod"))
+                    if isinstance(decorator, ast.Attribute):
+                        self.assertEqual((decorator.value.id, decorator.attr), (node.name, "setter"))
+                    else:
+                        self.assertIn(decorator.id, ("property", "staticmethod", "classmethod"))
 
     def test_methods_and_attributes_have_different_names(self):
         methods, attributes, generators = {}, {}, set()
@@ -193,15 +192,15 @@ class FormTest(unittest.TestCase):
                         attributes.setdefault(node.attr, []).append(part.name)
         # Both are in the document: the method of a board, the attribute of a Ring.
         self.assertEqual(sorted(set(methods) & set(attributes)), ["rest"])
-        self.assertEqual(sorted(generators), ["along", "least_sets", "origins", "rows", "rows_to"])
+        self.assertEqual(sorted(generators), ["along", "least_sets", "moments", "origins", "rows", "rows_to"])
         defined = [node.name for path in files() for node in nodes(path) if isinstance(node, ast.FunctionDef)]
         self.assertEqual([defined.count(name) for name in sorted(generators)], [1] * len(generators))
-        for name in attributes:
-            self.assertFalse(any(hasattr(kind, name) for kind in (str, int, list, dict, set, bytes, tuple))
-                             and name not in ("index", "count"), name)
+        # The document itself calls these attributes so: a slot's real study, and indexes.
+        for name in set(attributes) - {"real", "index"}:
+            self.assertFalse(any(hasattr(kind, name) for kind in (str, int, list, dict, set, bytes, tuple)), name)
 
     def test_operators_call_nothing_that_an_object_may_hold(self):
-        functions, attributes = {}, set(TO_COME)
+        functions, attributes = {}, {"index", "count"}
         roots = []
         for path in files():
             for node in nodes(path):

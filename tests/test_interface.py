@@ -2,6 +2,7 @@
 
 import importlib
 import inspect
+import pathlib
 import unittest
 
 FUNCTIONS = """
@@ -39,6 +40,11 @@ logs row_study(study,row)
 check_bets shows_within(one,other,value,crowds=) shows_lead(one,other,crowds,value) shows_ahead(one,other,crowds,value)
 check_bets shows_capital(study,bet,value)
 ladders first_fit(ladder,level)
+shelves most_telling(shelf,level)
+levels keeps(board,levels,level) common_level(board,levels,level) common_rung(board,ladders,level)
+check_shelves shows_rung(ladder,level,value) shows_choice(shelf,level,value)
+halls begun(study,state)
+reader value_of(word,text) word_of(value) read_line(line)
 """
 CLASSES = """
 ratios Ratio(top,bottom=) over compared is_below read of sign is_whole MOST_DIGITS __add__ __sub__ __mul__ __neg__ __abs__ __bool__
@@ -101,6 +107,24 @@ logs Log(study,*signs) add back chance __len__ __iter__
 ladders Ladder(rungs) __len__ __iter__ __contains__ study_of numbers __eq__ MOST
 ladders Rung(name,held,ahead)
 ladders NoRung(held)
+shelves Slot(name,quiet,real) __eq__
+shelves Shelf(slots) __len__ __iter__ __contains__ slot_of __eq__ MOST
+shelves Choice(name,bars)
+shelves NoChoice(bars)
+shelves Chosen(calm,power,length)
+shelves Loud(calm)
+shelves Dull(power)
+shelves Long(power,length)
+levels Kept(form)
+levels Passed(form)
+levels Common(index,here,beyond)
+levels NoCommon(form)
+stories Story(*steps) MOST __len__ __iter__ __contains__ __eq__ signs_of then __str__ read
+halls Hall(studies,board) __len__ __iter__ __contains__ study_of place runs choices see stop carry board change back again hope lasting
+halls Hall(studies,board) likely would moments twin trial tried fear peak is_lit story
+trials Trial(hall) __enter__ __exit__ keep
+gates Gates(*pairs) MOST __len__ __iter__ __eq__ __str__ read at bounds
+desk Desk() told __call__ tried __contains__ value_of __len__ __iter__ deeds __eq__
 """
 METHODS = """
 costs Costs.each_trial(watch) Costs.of(watch,signs) Costs.read(text,watch)
@@ -113,6 +137,24 @@ shapes Shape.as_crowd()
 bets Bet.factor(state,sign) Bet.__call__(row) Bet.along(row) Bet.read(text)
 logs Log.add(sign) Log.back()
 ladders Ladder.study_of(name) Ladder.numbers()
+shelves Shelf.slot_of(name)
+stories Story.signs_of(name) Story.then(name,sign) Story.read(text)
+halls Hall.study_of(name) Hall.place(name) Hall.runs(name) Hall.choices(name) Hall.see(name,sign) Hall.stop(name) Hall.carry(*steps)
+halls Hall.change(other) Hall.back() Hall.again() Hall.hope() Hall.lasting() Hall.likely() Hall.would(*steps) Hall.moments()
+halls Hall.twin() Hall.trial() Hall.tried(work)
+trials Trial.keep()
+gates Gates.at(fear) Gates.bounds(fear) Gates.read(text)
+desk Desk.told(*lines) Desk.__call__(line) Desk.tried(*lines) Desk.value_of(name)
+watches Watch.arm_of(state) Watch.signs_of(state) Watch.places_of(state) Watch.place(state,sign) Watch.after(row) Watch.lit_by(row)
+watches Watch.reached() Watch.begun(state) Watch.rows_to(end,most) Watch.read(text) Joined.pair_of(state)
+studies Study.arm_of(state) Study.crowd_of(state) Study.corners_of(state) Study.possible_of(state) Study.place(state,sign)
+studies Study.with_crowd(arm,crowd) Study.rows(many) Study.read(text)
+ratios Ratio.over(other) Ratio.compared(other) Ratio.is_below(other) Ratio.read(text) Ratio.of(value)
+tables Table.chances_of(source) Table.same(labels) Table.read(text)
+crowds Crowd.possible() Crowd.span(sign) Crowd.greatest_mean(numbers) Crowd.least_mean(numbers) Crowd.mixture(weights) Crowd.lean()
+crowds Crowd.all_sure(signs) Crowd.just(signs,chances) Crowd.between(signs,low,high) Crowd.read(text)
+greatest Greatest.at(state)
+least Least.at(state)
 """
 
 
@@ -141,6 +183,20 @@ def lines(text):
 
 
 class InterfaceTest(unittest.TestCase):
+    def test_each_module_of_the_document_is_listed(self):
+        listed = {line[0] for line in lines(FUNCTIONS) + lines(CLASSES)} | {"errors"}
+        folder = pathlib.Path(__file__).resolve().parent.parent / "peekproof"
+        modules = set("""errors checks ratios papers tables crowds allowed check_allowed watches made joined likeness studies sure steady
+            greatest least check_solved costs dearest soonest check_counted shapes nests check_shapes boards forms one_row ties
+            check_boards pockets misread lost twice late within leads bets walks logs check_bets ladders shelves levels check_shelves
+            stories halls trials gates reader desk""".split())
+        self.assertEqual(listed, modules)
+        self.assertTrue(all((folder / f"{name}.py").is_file() for name in modules))
+
+    def test_tables_of_words(self):
+        from peekproof.reader import CLASSES as words
+        self.assertEqual(words, ("crowd", "table", "watch", "study", "board", "story", "gates"))
+
     def defined(self, module, name):
         value = getattr(importlib.import_module(f"peekproof.{module}"), name)
         self.assertEqual(value.__module__, f"peekproof.{module}")
@@ -170,7 +226,8 @@ class InterfaceTest(unittest.TestCase):
 
     def test_words_of_papers(self):
         from peekproof.papers import Denial, Paper
-        denials = {"Parted", "Beyond", "Unlike", "Trap", "Endless", "Seldom", "Row", "Never", "Ruined", "Ring", "NoRung"}
+        denials = {"Parted", "Beyond", "Unlike", "Trap", "Endless", "Seldom", "Row", "Never", "Ruined", "Ring", "NoRung",
+                   "NoChoice", "Loud", "Dull", "Long", "Passed", "NoCommon"}
         for module, call, *_ in lines(CLASSES):
             kind = self.defined(module, call.split("(")[0])
             if issubclass(kind, Paper) and kind not in (Paper, Denial):
