@@ -18,7 +18,7 @@ class OpenPairs:
         """Whether the pair is one of these."""
         return pair[0] in self.one
 
-    def difference(self, pair):
+    def gap(self, pair):
         """1 if only the place of one is lit, -1 if only that of other is, otherwise 0."""
         return int(pair[0] == LIT) - int(pair[1] == LIT)
 

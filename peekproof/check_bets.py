@@ -32,7 +32,7 @@ def shows_lead(one, other, crowds, value):
     pairs = _met_of_one_arm(beside)
     if pairs is None or not isinstance(value, Lead):
         return False
-    floors = {pair: Ratio(beside.difference(pair)) for pair in pairs}
+    floors = {pair: Ratio(beside.gap(pair)) for pair in pairs}
     return _are_lines(beside, floors, -1, value)
 
 
@@ -69,7 +69,7 @@ def _are_closed_pairs(undecided, pairs):
     if any([undecided.asks_two(pair) for pair in pairs]):
         return False
     behind = [undecided.moved(pair, sign) for pair in pairs for sign in undecided.counting(pair)]
-    return all([pair in known or not undecided.goes_on(pair) and undecided.difference(pair) <= 0 for pair in behind])
+    return all([pair in known or not undecided.goes_on(pair) and undecided.gap(pair) <= 0 for pair in behind])
 
 
 def _is_pair(undecided, pair):
@@ -88,7 +88,7 @@ def _is_row_ahead(undecided, row):
         if not undecided.goes_on(pair) or undecided.asks_two(pair) or not undecided.counts(pair, sign):
             return False
         pair = undecided.moved(pair, sign)
-    return undecided.difference(pair) > 0
+    return undecided.gap(pair) > 0
 
 
 def _met_of_one_arm(beside):
@@ -122,7 +122,7 @@ def _is_shown(beside, floors, least, worths, ranks, line):
     pair = (line[0], line[1])
     worth = worths[pair]
     behind = [beside.moved(pair, sign) for sign in beside.one.signs_of(pair[0])]
-    told = [worths.get(place, Ratio(max(beside.difference(place), least))) for place in behind]
+    told = [worths.get(place, Ratio(max(beside.gap(place), least))) for place in behind]
     corners = beside.crowds[beside.arm_at(pair)].corners
     orders = means_compared(corners, told, worth)
     if worth.is_below(floors[pair]) or max(orders) > 0:

@@ -7,12 +7,12 @@ from peekproof.outlays import leads_out
 from peekproof.papers import Paper
 from peekproof.ratios import Ratio
 from peekproof.solving import best_world, leading_picks
-from peekproof.standings import DARK, LIT
 from peekproof.studies import Study
 from peekproof.watches import Watch, refuse_unlike_watches
 
 _MOST_PAIRS = 40
-_BEHIND = "behind"
+# The ends of a study of pairs: the difference there is -1, 0 or 1.
+_ENDS = ("behind", "dark", "lit")
 
 
 class Lead(Paper):
@@ -40,12 +40,12 @@ def lead(one, other, crowds):
     beside = OpenPairs(one, other, crowds)
     pairs = list(beside.met(_MOST_PAIRS))
     # All that is gained is 1 more than the difference, so that none of it is below 0.
-    moves = worth_moves(_study_of(beside, pairs), {LIT: Ratio(2), DARK: Ratio(1), _BEHIND: Ratio(0)})
-    looks = [(1, (1 + beside.difference(pair)) * moves.bottom, []) for pair in pairs]
+    moves = worth_moves(_study_of(beside, pairs), {end: Ratio(at) for at, end in enumerate(_ENDS)})
+    looks = [(1, (1 + beside.gap(pair)) * moves.bottom, []) for pair in pairs]
     lines = [[*line, look] for line, look in zip(moves.lines, looks)]
     picks, numbers, bottom = best_world(lines, leading_picks(lines), 1)
     worths = [Ratio(number, bottom * moves.bottom) - 1 for number in numbers]
-    kept = [None if worth == beside.difference(pair) else pick for pair, worth, pick in zip(pairs, worths, picks)]
+    kept = [None if worth == beside.gap(pair) else pick for pair, worth, pick in zip(pairs, worths, picks)]
     ranks = _ranks_of([look if pick is None else line[pick] for line, pick, look in zip(lines, kept, looks)], kept)
     return Lead(worths[0], [(pair[0], pair[1], worth, pick, ranks.get(at, 0))
                             for at, (pair, worth, pick) in enumerate(zip(pairs, worths, kept))])
@@ -70,13 +70,13 @@ def _study_of(beside, pairs):
     lines = [(labels[pair], beside.arm_at(pair), [_place_of(beside, labels, beside.moved(pair, sign))
                                                   for sign in beside.one.signs_of(pair[0])]) for pair in pairs]
     crowds = {beside.arm_at(pair): beside.crowds[beside.arm_at(pair)] for pair in pairs}
-    watch = Watch({arm: crowd.signs for arm, crowd in crowds.items()}, (LIT, DARK, _BEHIND), lines)
+    watch = Watch({arm: crowd.signs for arm, crowd in crowds.items()}, _ENDS, lines)
     return Study(watch, crowds)
 
 
 def _place_of(beside, labels, pair):
     # A pair that goes on, but was not met, stands behind a sign without a chance: there any place is right.
-    return labels[pair] if pair in labels else (_BEHIND, DARK, LIT)[beside.difference(pair) + 1]
+    return labels[pair] if pair in labels else _ENDS[beside.gap(pair) + 1]
 
 
 def _ranks_of(chosen, kept):

@@ -34,6 +34,6 @@ def within(one, other, crowds=None):
     # Pairs and signs in the order in which they are met are in the order of their least rows, too.
     for pair in ways:
         for sign in undecided.counting(pair):
-            if undecided.difference(undecided.moved(pair, sign)) > 0:
+            if undecided.gap(undecided.moved(pair, sign)) > 0:
                 return Row([*row_to(pair, ways), sign])
     return Within(list(ways))

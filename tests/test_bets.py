@@ -299,6 +299,9 @@ class LeastCapitalTest(Case):
             self.assertIs(shows_capital(study, bet, Capital(1, {"s0": 1, "s1": 1}, value)), False)
         self.assertTrue(shows_capital(study, FAIR, Ring(("hit",), ("miss", "hit"), ("hit",))) is False)
         self.assertTrue(shows_capital(study=study, bet=FAIR, value=Ring(("miss",), ("miss", "miss"), ("hit", "hit"))))
+        ruined = Bet(RUNS, {"s0": (0, 1)})
+        self.assertTrue(shows_capital(study, ruined, Ruined(("miss", "hit", "hit"))))
+        self.assertIs(shows_capital(study, ruined, Capital(0, {"s0": 0, "s1": 0}, ("hit", "hit"))), False)
         # Capitals too small at a state are no table of least ones, but keep what is told; too great ones do not.
         self.assertTrue(shows_capital(study, bet, Capital(1, {"s0": 1, "s1": 1}, ("miss", "hit", "hit"))))
         self.assertIs(shows_capital(study, bet, Capital(1, {"s0": 1, "s1": 2}, ("hit", "hit"))), False)

@@ -212,6 +212,11 @@ class DeskTest(Case):
                 self.assertIs(one == other, at == place, (at, place))
                 self.assertIs(one != other, at != place)
         self.assertEqual(told_desk("keep any2 board x", "drop any2"), told_desk())
+        # The same places, board, story and peak of other studies: one crowd has a needless corner.
+        wide = "keep coin crowd hit 1/4 miss 3/4 / hit 1/2 miss 1/2 / hit 3/4 miss 1/4"
+        one, other = (told_desk(line, "study s two coin coin", *opened, "see x hit", "drop coin", "drop s") for line in (COIN, wide))
+        self.assertEqual((list(one), one.told("fear", "peak", "story", "place x")), (list(other), other.told("fear", "peak", "story", "place x")))
+        self.assertNotEqual(one, other)
         self.assertEqual(told_desk(*opened, "stop x", "back"), told_desk(*opened))
         self.assertEqual(told_desk("keep c crowd hit 1/4 miss 3/4 / hit 3/4 miss 1/4 / hit 1/2 miss 1/2"),
                          told_desk("keep c crowd hit 3/4 miss 1/4 / hit 1/4 miss 3/4"))

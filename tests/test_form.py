@@ -195,8 +195,8 @@ class FormTest(unittest.TestCase):
         self.assertEqual(sorted(generators), ["along", "least_sets", "moments", "origins", "rows", "rows_to"])
         defined = [node.name for path in files() for node in nodes(path) if isinstance(node, ast.FunctionDef)]
         self.assertEqual([defined.count(name) for name in sorted(generators)], [1] * len(generators))
-        # The document itself calls these attributes so: a slot's real study, and indexes.
-        for name in set(attributes) - {"real", "index"}:
+        # The document itself calls these so: a slot's real study, indexes, and what adds a sign to a log.
+        for name in {*attributes, *methods} - {"real", "index", "add"}:
             self.assertFalse(any(hasattr(kind, name) for kind in (str, int, list, dict, set, bytes, tuple)), name)
 
     def test_operators_call_nothing_that_an_object_may_hold(self):

@@ -222,6 +222,23 @@ class HallTest(Case):
         self.assertEqual(list(hall.moments()), [Ratio(81, 256), Ratio(27, 64)])
         self.assertIsInstance(hall.moments(), types.GeneratorType)
 
+    def test_several_deeds_taken_back(self):
+        hall = two()
+        steps = [("x", "hit"), ("y", "hit"), ("x", None), ("y", "miss")]
+        hall.carry(*steps)
+        for many in (3, 2, 1, 0):
+            hall.back()
+            self.assertEqual(hall.story, Story(*steps[:many]))
+        self.refused(Nothing, {}, hall.back)
+        for many in (1, 2, 3):
+            self.assertIsNone(hall.again())
+            self.assertEqual(hall.story, Story(*steps[:many]))
+        hall.back()
+        hall.again()
+        hall.again()
+        self.assertEqual(hall.story, Story(*steps))
+        self.refused(Nothing, {}, hall.again)
+
     def test_the_peak_stays(self):
         hall = Hall([("x", STUDY), ("y", STUDY)], AllOf(X, Y))
         hall.change(AnyOf(X, Y))

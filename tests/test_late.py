@@ -202,6 +202,13 @@ class LimitsTest(Case):
         wide = Study(labelled(signs=seven).watch, {"a": Crowd(seven, [[Ratio(1, 7)] * 7] * 2)})
         self.refused(TooMany, {"what": "signs", "most": 12}, Late, wide, 1)
 
+    def test_corners_ahead_of_labels(self):
+        # With 96 moved corners the one that gives a late sign 1 is one too many; ahead of it no label is looked at.
+        crowd = Crowd(("a", "b", "c"), [[Ratio(1, 3)] * 3] * 12)
+        long = Study(labelled(state="a.b.c.d.e.f", signs=("a", "b", "c")).watch, {"a": crowd})
+        self.refused(TooMany, {"what": "corners", "most": 96}, Late, long, 2)
+        self.refused(TooMany, {"what": "names", "most": 6}, Late, long, 1)
+
     def test_labels(self):
         six, five = "a.b.c.d.e.f", "a.b.c.d.e"
         self.assertEqual(Late(labelled(five, five, (five, "x"))).states[0], f"{five}.k1b")

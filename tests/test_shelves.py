@@ -161,12 +161,10 @@ class MostTellingTest(Case):
             for value in NO_LEVELS:
                 self.refused(BadShelf, {"part": "level"}, call, shelf, value)
         large = long_study(41)
-        arm = large.watch.arms[0]
         unsure = Slot("u", Study(stays, coin(HALF)), Study(stays, loose))
         other = Slot("v", Study(sooner(2, 2), coin(HALF)), Study(sooner(2, 2), loose))
         wide = Slot("w", large, large)
         self.refused(TooMany, {"what": "states", "most": 40}, most_telling, Shelf([wide]), 1)
-        self.assertTrue(sure(large) and arm)
         for slots, trap in (([wide, unsure], unsure), ([unsure, wide, other], unsure), ([other, unsure], other), ([shelf.slots[0], other], other)):
             for level in (0, 1):
                 self.refused(Unsure, {"trap": sure(trap.real)}, most_telling, Shelf(slots), level)
@@ -176,6 +174,13 @@ class MostTellingTest(Case):
         self.assertEqual(most_telling(Shelf([calm]), 0).name, "q")
         self.refused(TooMany, {"what": "states", "most": 40}, most_telling, Shelf([slot("a", Ratio(1, 4), HALF), wide]), Ratio(1, 4))
         self.assertIs(shows_choice(Shelf([wide]), 1, None), False)
+        # Few states come about in the quiet study, and the slot does not fit: yet its real study is too large.
+        name, signs = large.watch.arms[0]
+        lines = [("first", name, ("lit", "q0")), *[(state, name, large.watch.places_of(state)) for state in large.watch]]
+        watch = Watch({name: signs}, large.watch.ends, lines)
+        half = Slot("h", Study(watch, {name: Crowd.just(signs, (1, 0))}), Study(watch, {name: Crowd.just(signs, (HALF, HALF))}))
+        self.assertEqual((len(half.quiet), len(half.real), greatest(half.quiet).number), (1, 42, 1))
+        self.refused(TooMany, {"what": "states", "most": 40}, most_telling, Shelf([slot("a", HALF, HALF), half]), 0)
 
 
 class ShowsChoiceTest(Case):

@@ -337,6 +337,16 @@ class ShownTest(Case):
         self.assertIs(shows_lead(other, one, WIDE, Ahead(*right.parts)), False)
         self.assertIs(shows_ahead(other, one, WIDE, right), False)
 
+    def test_worths_below_the_difference(self):
+        # Who goes on from here falls behind: a look is worth more.
+        one = Watch({"a": ("x", "y")}, ["dark"], [("p", "a", ("dark", "dark"))])
+        other = Watch({"a": ("x", "y")}, ["lit"], [("p", "a", ("lit", "lit"))])
+        crowds = {"a": Crowd.all_sure(("x", "y"))}
+        self.assertEqual(lead(one, other, crowds), Lead(0, [("p", "p", 0, None, 0)]))
+        self.assertIs(shows_lead(one, other, crowds, Lead(-1, [("p", "p", -1, 0, 1)])), False)
+        self.assertTrue(shows_ahead(one, other, crowds, Ahead(0, [("p", "p", 0, 0, 1)])))
+        self.assertIs(shows_ahead(one, other, crowds, Ahead(-1, [("p", "p", -1, 0, 1)])), False)
+
     def test_values_of_any_kind(self):
         one, other = in_a_row(2), in_a_row(3)
         for value in [*ANY_VALUES, Paper("row", ("hit", "hit")), Denial("row", ("hit", "hit")), Paper("within", ())]:
