@@ -29,6 +29,7 @@ class Trial:
 
     def keep(self):
         """Behind the innermost block the hall will be as it is now."""
-        if self.frame is None:
+        frame = self.frame
+        if frame is None:
             raise Nothing()
-        self.frame.held = self.hall.standing
+        frame.held = self.hall.standing

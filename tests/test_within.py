@@ -234,9 +234,10 @@ class ErrorsTest(Case):
 
     def test_sizes(self):
         # Rings of p and q states stand at pairs that are met one behind the other, as many as their product.
-        rings = {many: ring_watch(many) for many in (1, 5, 7, 8, 25, 29, 41, 40, 200)}
+        rings = {many: ring_watch(many) for many in (1, 3, 5, 7, 8, 25, 29, 41, 40, 67, 200)}
         free = {"a0": Crowd.just(PAIR, (1, 0))}
         self.assertEqual(len(within(rings[25], rings[8]).pairs), 200)
+        self.refused(TooMany, {"what": "pairs", "most": 200}, within, rings[3], rings[67])
         self.refused(TooMany, {"what": "pairs", "most": 200}, within, rings[7], rings[29])
         self.assertEqual(len(within(rings[200], rings[1]).pairs), 200)
         for call in (lead, ahead):
